@@ -1,0 +1,1 @@
+"""Onehold: seats that visitors hold in several pages at once."""

@@ -1,0 +1,150 @@
+"""Scenes: what a house is at one moment, and the scene behind each of its events.
+
+A scene that stands in a story never changes, so that twins may share it:
+each function here returns a new one. The errors of deeds are the house's.
+"""
+
+from onehold.seats import FIRST_RECORD, done_record, failed_looks, past_behind, view_of, wrongs_of
+
+
+class Scene:
+    """What a house is at one moment.
+
+    pages has a visitor and the shown views for each page, None for a closed one.
+    going has (page, visitor, row, seats, views) for each letter that is on its
+    way to the house; one that asks to refresh has the row None and no seats.
+    answers has a page and the views for each answer on its way.
+    refusals has the tuple of (seat, look) for each letter that was refused.
+    found has (seat, wrong) for the wrongs of the last event alone.
+    """
+
+    def __init__(self, seats):
+        self.moment = 0
+        self.records = [FIRST_RECORD] * seats
+        self.pasts = [()] * seats
+        self.pages = []
+        self.letters = 0
+        self.going = {}
+        self.answers = {}
+        self.refusals = {}
+        self.found = []
+
+    def copied(self):
+        """Return a scene that is the same, but for found: nothing has happened in it yet."""
+        other = Scene(0)
+        other.moment = self.moment
+        other.records = list(self.records)
+        other.pasts = list(self.pasts)
+        other.pages = list(self.pages)
+        other.letters = self.letters
+        other.going = dict(self.going)
+        other.answers = dict(self.answers)
+        other.refusals = dict(self.refusals)
+        return other
+
+
+def views_for(scene, visitor):
+    """Return the tuple of the views of all seats that the visitor sees."""
+    return tuple([view_of(record, visitor) for record in scene.records])
+
+
+def with_page(scene, visitor):
+    """Return the scene behind the opening of a page."""
+    new = scene.copied()
+    new.pages.append((visitor, views_for(new, visitor)))
+    return new
+
+
+def without_page(scene, page):
+    """Return the scene behind the closing of a page."""
+    new = scene.copied()
+    new.pages[page] = None
+    new.answers = {letter: answer for letter, answer in scene.answers.items() if answer[0] != page}
+    return new
+
+
+def with_views(scene, page, views):
+    """Return the scene in which the page shows the views."""
+    new = scene.copied()
+    new.pages[page] = (scene.pages[page][0], views)
+    return new
+
+
+def with_letter(scene, page, row, seats):
+    """Return the scene behind the sending of a letter; its number is that of the letters ahead of it."""
+    new = scene.copied()
+    visitor, views = scene.pages[page]
+    new.going[scene.letters] = (page, visitor, row, seats, views)
+    new.letters = scene.letters + 1
+    return new
+
+
+def with_answer(scene, states, letter, length):
+    """Return the scene in which the letter has come to the house."""
+    new = scene.copied()
+    page, visitor, row, seats, views = new.going.pop(letter)
+    failed = failed_seats(scene, row, seats, visitor, views)
+    if failed:
+        new.refusals[letter] = tuple(failed)
+    else:
+        do_row(new, states, row, seats, visitor, length)
+    if new.pages[page] is not None:
+        new.answers[letter] = (page, views_for(new, visitor))
+    return new
+
+
+def with_heard(scene, letter):
+    """Return the scene in which the answer of the letter has reached its page."""
+    page, views = scene.answers[letter]
+    new = with_views(scene, page, views)
+    new.answers.pop(letter)
+    return new
+
+
+def without_letter(scene, letter):
+    """Return the scene in which the letter, or its answer, is lost."""
+    new = scene.copied()
+    if letter in new.going:
+        new.going.pop(letter)
+    else:
+        new.answers.pop(letter)
+    return new
+
+
+def with_sweep(scene, states, row, seat, length):
+    """Return the scene behind a sweep that is done."""
+    new = scene.copied()
+    do_row(new, states, row, (seat,), None, length)
+    return new
+
+
+def with_moments(scene, moments):
+    """Return the scene so many moments later."""
+    new = scene.copied()
+    new.moment = scene.moment + moments
+    return new
+
+
+def failed_seats(scene, row, seats, visitor, views):
+    """Return the list of (seat, look) of what keeps the row from being done at the seats."""
+    return [
+        (seat, look)
+        for seat in seats
+        for look in failed_looks(row, scene.records[seat], visitor, views[seat], scene.moment)
+    ]
+
+
+def can_sweep(scene, row, seat):
+    """Tell whether a sweep that comes to the seat is done."""
+    return not failed_looks(row, scene.records[seat], None, None, scene.moment)
+
+
+def do_row(scene, states, row, seats, sender, length):
+    """Do the step of the row at each of the seats of this scene, which is new."""
+    for seat in seats:
+        ahead = scene.records[seat]
+        behind = done_record(states, row, ahead, sender, scene.moment + length)
+        scene.records[seat] = behind
+        scene.pasts[seat] = past_behind(scene.pasts[seat], ahead, behind)
+        wrongs = wrongs_of(states, ahead, behind, sender, scene.moment)
+        scene.found.extend([(seat, wrong) for wrong in wrongs])

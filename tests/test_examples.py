@@ -1,0 +1,71 @@
+"""The examples of points [8], [15] and [19], word by word as the document shows them."""
+
+import doctest
+import unittest
+
+READ = r'''
+>>> from onehold.books import read_book
+>>> read_book("states: held timed, sold sold\nhold: free ? at free ! take held\nlapse: ? over ! free, refund\n")
+((('held', True, False), ('sold', False, True)), (('hold', ('free',), ('at free',), 'take held', ()), ('lapse', (), ('over',), 'free', ('refund',))))
+'''
+
+LIVE = r'''
+>>> from onehold.books import read_book
+>>> from onehold.houses import House
+>>> house = House(read_book("states: held timed, sold sold\nhold: free ? at free ! take held\n"))
+>>> page = house.open_page(7)
+>>> letter = house.press(page, "hold", 0)
+>>> (house.comes(letter, length=5), house.record(0), house.shown(page))
+(True, ('held', 7, 1, 1, 5, (), False), (('free', 0, 0),))
+'''
+
+PLAYED = r'''
+>>> from onehold.books import read_book
+>>> from onehold.houses import House, play
+>>> house = House(read_book("states: held timed, sold sold\npay: free, my held ? mine ! take sold, keep\n"))
+>>> (play(house, [("open", 3), ("press", 0, "pay", (0,)), ("comes", 0, 1)]), house.failed(0))
+([0, 0, False], [(0, 'mine')])
+'''
+
+STEPS = r'''
+>>> from onehold.books import read_book
+>>> from onehold.situations import after, steps_at
+>>> book = read_book("states: held timed, sold sold\npay: my held ? mine ! take sold, keep\n")
+>>> list(steps_at(book, ("held", "running", "none", ())))
+[('pay', 'owner', 'still', 'my held'), ('pay', 'owner', 'old', 'my held'), ('', 'clock', '', '')]
+'''
+
+AFTER = r'''
+>>> from onehold.books import read_book
+>>> from onehold.situations import after
+>>> book = read_book("states: held timed, sold sold\npay: my held ? mine ! take sold, keep\n")
+>>> after(book, ("held", "running", "none", ()), ("pay", "owner", "old", "my held"))
+(('sold', '', 'good', ('held',)), ())
+'''
+
+
+class Examples(unittest.TestCase):
+
+    def check(self, text, calls):
+        example = doctest.DocTestParser().get_doctest(text, {}, "example", None, 0)
+        results = doctest.DocTestRunner(verbose=False).run(example)
+        self.assertEqual(results, doctest.TestResults(0, calls))
+
+    def test_point_8(self):
+        self.check(READ, 2)
+
+    def test_point_15_a_live_house(self):
+        self.check(LIVE, 6)
+
+    def test_point_15_play(self):
+        self.check(PLAYED, 4)
+
+    def test_point_19_steps(self):
+        self.check(STEPS, 4)
+
+    def test_point_19_after(self):
+        self.check(AFTER, 4)
+
+
+if __name__ == "__main__":
+    unittest.main()

@@ -1,0 +1,164 @@
+"""The interface of what has landed, and those rules of the language that a short test can see."""
+
+import ast
+import builtins
+import importlib
+import inspect
+import pathlib
+import re
+import unittest
+
+FOLDER = pathlib.Path(__file__).resolve().parent.parent / "onehold"
+FILES = sorted(FOLDER.glob("*.py"))
+INTERFACE = {
+    "books": ["check_book(book)", "show_book(book)", "read_book(text)", "looks_for(book)"],
+    "houses": ["House(book, *, seats=1)", "GuardedHouse(book, *, seats=1)", "play(house, events)",
+               "what_if(house, events)"],
+    "situations": ["steps_at(book, situation, *, world='late')", "after(book, situation, step)",
+                   "effect(book, situation, step)"],
+}
+METHODS = [
+    "open_page(self, visitor)", "close_page(self, page)", "old_answer(self, page, *words)", "refresh(self, page)",
+    "press(self, page, name, *seats)", "comes(self, letter, length=1)", "hear(self, letter)", "lose(self, letter)",
+    "send(self, page, name, *seats, length=1)", "sweep(self, name, seat, length=1)", "tick(self, moments=1)",
+    "record(self, seat)", "shown(self, page)", "failed(self, letter)", "wrongs(self, seat)", "story(self)",
+    "situation(self, seat)", "undo(self)", "twin(self)",
+]
+LIBRARY = ("heapq", "math", "itertools", "collections")
+BUILTINS = ("len range enumerate zip min max sum abs sorted reversed int str bool list tuple dict set isinstance ord "
+            "repr any all divmod pow map iter next super property staticmethod classmethod getattr hasattr "
+            "ValueError Exception TypeError KeyError NotImplemented ZeroDivisionError type").split()
+BARRED_WORDS = ("register", "mro", "elements", "law", "typing", "enum", "dataclass", "overload", "contextmanager",
+                "eval", "exec", "globals", "locals", "vars", "compile", "input", "print", "async")
+
+
+def signatures(module):
+    """The functions and classes that the module itself defines, as they are called."""
+    found = []
+    for name, thing in vars(module).items():
+        if callable(thing) and getattr(thing, "__module__", "") == module.__name__:
+            found.append(name + str(inspect.signature(thing)))
+    return found
+
+
+def bound_names(tree):
+    """All names that a file binds anywhere."""
+    names = []
+    for node in ast.walk(tree):
+        if isinstance(node, (ast.FunctionDef, ast.ClassDef)):
+            names.append(node.name)
+        elif isinstance(node, ast.arg):
+            names.append(node.arg)
+        elif isinstance(node, ast.alias):
+            names.append(node.asname or node.name)
+        elif isinstance(node, ast.Name) and not isinstance(node.ctx, ast.Load):
+            names.append(node.id)
+    return names
+
+
+class Interface(unittest.TestCase):
+
+    def test_functions_and_classes_are_defined_in_their_files(self):
+        for name, expected in INTERFACE.items():
+            found = signatures(importlib.import_module("onehold." + name))
+            for signature in expected:
+                self.assertIn(signature, found)
+
+    def test_methods_of_house(self):
+        house = importlib.import_module("onehold.houses").House
+        found = [name + str(inspect.signature(thing)) for name, thing in vars(house).items() if inspect.isfunction(thing)]
+        for signature in METHODS:
+            self.assertIn(signature, found)
+        self.assertIsInstance(vars(house)["now"], property)
+
+    def test_steps_at_is_a_generator(self):
+        self.assertTrue(inspect.isgeneratorfunction(importlib.import_module("onehold.situations").steps_at))
+
+
+class Form(unittest.TestCase):
+
+    def each(self):
+        for path in FILES:
+            text = path.read_text(encoding="ascii")
+            yield path.name, text, ast.parse(text)
+
+    def test_files(self):
+        self.assertIn("__init__.py", [path.name for path in FILES])
+        inside = [path for path in FOLDER.iterdir() if path.name != "__pycache__"]
+        self.assertEqual(sorted(inside), FILES)
+        for path in FILES:
+            self.assertRegex(path.name, r"^[a-z0-9_]+\.py$")
+
+    def test_characters_and_sizes(self):
+        for name, text, tree in self.each():
+            self.assertRegex(text, r"\A[ -~\n]*\Z", name)
+            self.assertLessEqual(text.count("\n"), 399, name)
+            self.assertLessEqual(max(map(len, text.split("\n"))), 120, name)
+            for node in ast.walk(tree):
+                if isinstance(node, ast.FunctionDef):
+                    self.assertLessEqual(node.end_lineno - node.lineno + 1, 40, (name, node.name))
+
+    def test_imports(self):
+        for name, _, tree in self.each():
+            for node in ast.walk(tree):
+                self.assertNotIsInstance(node, ast.Import, name)
+                if isinstance(node, ast.ImportFrom) and node.module not in LIBRARY:
+                    source = (FOLDER.parent / (node.module.replace(".", "/") + ".py")).read_text()
+                    defined = {thing for child in ast.parse(source).body for thing in bound_names_of(child)}
+                    self.assertLessEqual({alias.name for alias in node.names}, defined, name)
+
+    def test_every_import_is_used(self):
+        for name, _, tree in self.each():
+            used = {node.id for node in ast.walk(tree) if isinstance(node, ast.Name)}
+            for node in ast.walk(tree):
+                if isinstance(node, ast.ImportFrom):
+                    self.assertLessEqual({alias.asname or alias.name for alias in node.names}, used, name)
+
+    def test_builtins(self):
+        for name, _, tree in self.each():
+            bound = bound_names(tree)
+            for word in bound:
+                self.assertFalse(hasattr(builtins, word) and not word.startswith("__"), (name, word))
+            for node in ast.walk(tree):
+                if isinstance(node, ast.Name) and node.id not in bound:
+                    self.assertIn(node.id, BUILTINS, name)
+
+    def test_words(self):
+        for name, text, tree in self.each():
+            for word in BARRED_WORDS:
+                self.assertNotRegex(text, rf"\b{word}\b", name)
+            for node in ast.walk(tree):
+                if isinstance(node, ast.Constant) and isinstance(node.value, str):
+                    self.assertNotIn("%", node.value, name)
+
+    def test_module_level(self):
+        for name, _, tree in self.each():
+            for at, node in enumerate(tree.body):
+                docstring = at == 0 and isinstance(node, ast.Expr) and isinstance(node.value, ast.Constant)
+                kinds = (ast.ImportFrom, ast.FunctionDef, ast.ClassDef, ast.Assign)
+                self.assertTrue(docstring or isinstance(node, kinds), (name, node.lineno))
+                if isinstance(node, ast.Assign):
+                    self.assertIsNotNone(re.fullmatch("[A-Z_]+", node.targets[0].id), name)
+                    ast.literal_eval(node.value)
+
+    def test_decorators_and_handlers(self):
+        for name, _, tree in self.each():
+            for node in ast.walk(tree):
+                if isinstance(node, (ast.FunctionDef, ast.ClassDef)):
+                    words = [ast.unparse(mark) for mark in node.decorator_list]
+                    self.assertLessEqual(set(words), {"property", "classmethod", "staticmethod"}, name)
+                if isinstance(node, ast.ExceptHandler):
+                    self.assertIsNotNone(node.type, name)
+
+
+def bound_names_of(node):
+    """The names that one statement of a file binds for the file."""
+    if isinstance(node, (ast.FunctionDef, ast.ClassDef)):
+        return [node.name]
+    if isinstance(node, ast.Assign):
+        return [target.id for target in node.targets]
+    return []
+
+
+if __name__ == "__main__":
+    unittest.main()
