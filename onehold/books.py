@@ -9,18 +9,42 @@ MARKS = ("new", "refund", "keep")
 MOST_LETTERS = 12
 
 
+class Choices:
+    """What the rows of a book with these states may show, look at and do: dicts of True.
+
+    Rows are looked at many times, so that a table costs less than a list for each of them.
+    """
+
+    def __init__(self, states):
+        words = words_of(states)
+        self.views = {word: True for word in view_words(states)}
+        self.looks = {look: True for look in all_looks(states)}
+        self.deeds = {deed: True for deed in ["", FREE, "time"] + ["move " + word for word in words]}
+        self.takes = {"take " + word: True for word in words}
+
+
 def check_book(book):
     """Return None for a book, or raise InvalidStates or InvalidRow."""
     states, rows = book
     if not states:
         raise InvalidStates(0)
+    words = {}
     for index, state in enumerate(states):
-        if not is_state(state, words_of(states[:index])):
+        if not is_state(state, words):
             raise InvalidStates(index)
-    for index, row in enumerate(rows):
-        part = wrong_part(states, names_of(rows[:index]), row)
+        words[state[0]] = True
+    check_rows(states, (), rows)
+
+
+def check_rows(states, rows, further):
+    """Raise InvalidRow for the first of the further rows that cannot stand behind the rows."""
+    choices = Choices(states)
+    names = {row[0]: True for row in rows}
+    for index, row in enumerate(further, start=len(rows)):
+        part = wrong_part(choices, names, row)
         if part is not None:
             raise InvalidRow(index, part)
+        names[row[0]] = True
 
 
 def looks_for(book):
@@ -43,11 +67,14 @@ def read_book(text):
     states = read_states(lines[0]) if lines else None
     if states is None:
         raise InvalidText(1)
+    choices = Choices(states)
+    names = {}
     rows = []
     for number, line in enumerate(lines[1:], start=2):
-        row = read_row(states, names_of(rows), line)
-        if row is None:
+        row = read_row(line)
+        if row is None or wrong_part(choices, names, row) is not None:
             raise InvalidText(number)
+        names[row[0]] = True
         rows.append(row)
     if unended:
         raise InvalidText(len(lines) + 1)
@@ -64,21 +91,6 @@ def words_of(states):
     return [word for word, timed, sold in states]
 
 
-def names_of(rows):
-    """Return the list of the names of the rows."""
-    return [row[0] for row in rows]
-
-
-def timed_words(states):
-    """Return the list of the words of the states in which a hold can run out."""
-    return [word for word, timed, sold in states if timed]
-
-
-def sold_words(states):
-    """Return the list of the words of the states in which a seat is sold."""
-    return [word for word, timed, sold in states if sold]
-
-
 def view_word(state, is_who):
     """Return how a visitor sees the state: as who, or as anybody else."""
     if state == FREE:
@@ -89,7 +101,7 @@ def view_word(state, is_who):
 def view_words(states):
     """Return the list of all view words of the states."""
     words = words_of(states)
-    return [FREE] + [view_word(word, is_who) for word in words for is_who in (True, False)]
+    return [FREE] + ["my " + word for word in words] + ["others " + word for word in words]
 
 
 def all_looks(states):
@@ -101,7 +113,7 @@ def all_looks(states):
 
 def is_name(word):
     """Tell whether the word may be a state's word or a row's name by its letters."""
-    return 1 <= len(word) <= MOST_LETTERS and all(["a" <= sign <= "z" for sign in word])
+    return len(word) <= MOST_LETTERS and word.isascii() and word.isalpha() and word.islower()
 
 
 def is_state(state, words):
@@ -110,43 +122,37 @@ def is_state(state, words):
     return is_name(word) and word != FREE and word not in words and not (timed and sold)
 
 
-def wrong_part(states, names, row):
+def wrong_part(choices, names, row):
     """Return the first part that is wrong in a row behind rows with these names, or None."""
     name, shown, looks, deed, marks = row
-    if not is_name(name) or name in names:
+    if name in names or not is_name(name):
         return "name"
-    if not are_some_of(shown, view_words(states)):
+    if not are_some_of(shown, choices.views):
         return "shown"
-    if not are_some_of(looks, row_looks(states, is_sweep(row))):
+    if not are_some_of(looks, choices.looks) or not shown and [look for look in looks if look in SENDER_LOOKS]:
         return "looks"
-    if deed not in row_deeds(states, is_sweep(row)):
+    if deed not in choices.deeds and not (shown and deed in choices.takes):
         return "deed"
-    if not are_some_of(marks, row_marks(deed, is_sweep(row))) or not (deed or marks):
+    if not are_marks(marks, deed, shown):
         return "marks"
     return None
 
 
 def are_some_of(parts, choice):
     """Tell whether all the parts are in the choice, none of them twice."""
-    return len(set(parts)) == len(parts) and all([part in choice for part in parts])
+    for part in parts:
+        if part not in choice:
+            return False
+    return len(set(parts)) == len(parts)
 
 
-def row_looks(states, sweep):
-    """Return the list of the looks that a row may have."""
-    return [look for look in all_looks(states) if not (sweep and look in SENDER_LOOKS)]
-
-
-def row_deeds(states, sweep):
-    """Return the list of the deeds that a row may have."""
-    words = words_of(states)
-    takes = [] if sweep else ["take " + word for word in words]
-    return ["", FREE, "time"] + takes + ["move " + word for word in words]
-
-
-def row_marks(deed, sweep):
-    """Return the list of the marks that may stand beside the deed."""
-    barred = ("new" if deed == FREE else "", "keep" if sweep else "")
-    return [mark for mark in MARKS if mark not in barred]
+def are_marks(marks, deed, shown):
+    """Tell whether the marks may stand in a row with this deed and these shown words."""
+    if not marks:
+        return deed != ""
+    if "new" in marks and deed == FREE or "keep" in marks and not shown:
+        return False
+    return are_some_of(marks, MARKS)
 
 
 def show_states(states):
@@ -165,7 +171,7 @@ def show_state(state):
 def show_row(row):
     """Return the line of the row, without its newline."""
     name, shown, looks, deed, marks = row
-    done = [deed] + list(marks) if deed else list(marks)
+    done = (deed, *marks) if deed else marks
     return name + ":" + show_list(shown) + " ?" + show_list(looks) + " !" + show_list(done)
 
 
@@ -178,20 +184,23 @@ def read_states(line):
     """Return the states of the line, or None if no book has this line."""
     parts = [part.partition(" ") for part in line.removeprefix("states: ").split(", ")]
     states = tuple([(word, kind == "timed", kind == "sold") for word, _, kind in parts])
-    fits = all([is_state(state, words_of(states[:index])) for index, state in enumerate(states)])
-    return states if fits and show_states(states) == line else None
+    words = {}
+    for state in states:
+        if not is_state(state, words):
+            return None
+        words[state[0]] = True
+    return states if show_states(states) == line else None
 
 
-def read_row(states, names, line):
-    """Return the row of the line behind rows with these names, or None if no book has it there."""
+def read_row(line):
+    """Return the row of the line, or None if it has not the form of a row; its parts may be wrong."""
     name, _, rest = line.partition(":")
     shown, _, rest = rest.partition(" ?")
     looks, _, rest = rest.partition(" !")
     done = read_list(rest)
     deed = done[0] if done and done[0] not in MARKS else ""
-    marks = done[1:] if deed else done
-    row = (name, read_list(shown), read_list(looks), deed, marks)
-    return row if wrong_part(states, names, row) is None and show_row(row) == line else None
+    row = (name, read_list(shown), read_list(looks), deed, done[1:] if deed else done)
+    return row if show_row(row) == line else None
 
 
 def read_list(text):

@@ -28,7 +28,7 @@ from onehold.scenes import (
     without_letter,
     without_page,
 )
-from onehold.seats import situation_of
+from onehold.seats import kinds_of, situation_of
 
 EVENT_FORMS = (
     ("open", 2),
@@ -42,6 +42,8 @@ EVENT_FORMS = (
     ("sweep", 4),
     ("tick", 2),
 )
+# A twin is made of this book and then gets that of its house, which need not be checked again.
+SMALL_BOOK = ((("held", False, False),), ())
 
 
 class House:
@@ -52,6 +54,7 @@ class House:
         if seats < 1:
             raise NoSeat(seats)
         self._book = book
+        self._kinds = kinds_of(book[0])
         self._story = []
         self._scenes = [Scene(seats)]
 
@@ -96,7 +99,7 @@ class House:
         if letter not in self._scenes[-1].going:
             raise NoLetter(letter)
         check_length(length)
-        scene = with_answer(self._scenes[-1], self._book[0], letter, length)
+        scene = with_answer(self._scenes[-1], self._kinds, letter, length)
         self._add(("comes", letter, length), scene)
         return letter not in scene.refusals
 
@@ -118,7 +121,7 @@ class House:
         pressed = self._pressed(page, name, seats)
         check_length(length)
         letter = pressed.letters - 1
-        come = with_answer(pressed, self._book[0], letter, length)
+        come = with_answer(pressed, self._kinds, letter, length)
         heard = with_heard(come, letter)
         events = [("press", page, name, seats), ("comes", letter, length), ("hear", letter)]
         self._enter(list(zip(events, [pressed, come, heard])))
@@ -131,7 +134,7 @@ class House:
         check_length(length)
         scene = self._scenes[-1]
         done = can_sweep(scene, row, seat)
-        behind = with_sweep(scene, self._book[0], row, seat, length) if done else scene.copied()
+        behind = with_sweep(scene, self._kinds, row, seat, length) if done else scene.copied()
         self._add(("sweep", name, seat, length), behind)
         return done
 
@@ -186,15 +189,17 @@ class House:
 
     def twin(self):
         """Return an independent house of the same class with the same story."""
-        other = self._made(self._book, len(self._scenes[0].records))
+        other = self._made(SMALL_BOOK)
+        other._book = self._book
+        other._kinds = self._kinds
         other._story = list(self._story)
         other._scenes = list(self._scenes)
         return other
 
     @classmethod
-    def _made(cls, book, seats):
+    def _made(cls, book):
         """Return a house of the class at the beginning of its story."""
-        return cls(book, seats=seats)
+        return cls(book)
 
     def _add(self, event, scene):
         """Put one event, with the scene behind it, into the story."""

@@ -1,7 +1,9 @@
 """Scenes: what a house is at one moment, and the scene behind each of its events.
 
-A scene that stands in a story never changes, so that twins may share it:
-each function here returns a new one. The errors of deeds are the house's.
+A scene that stands in a story never changes, so that twins may share it, and
+scenes may share their lists and dicts: each function here returns a new scene,
+with a new list or dict in the place of each one that is unlike. The errors of
+deeds are the house's.
 """
 
 from onehold.seats import FIRST_RECORD, done_record, failed_looks, past_behind, view_of, wrongs_of
@@ -33,13 +35,13 @@ class Scene:
         """Return a scene that is the same, but for found: nothing has happened in it yet."""
         other = Scene(0)
         other.moment = self.moment
-        other.records = list(self.records)
-        other.pasts = list(self.pasts)
-        other.pages = list(self.pages)
+        other.records = self.records
+        other.pasts = self.pasts
+        other.pages = self.pages
         other.letters = self.letters
-        other.going = dict(self.going)
-        other.answers = dict(self.answers)
-        other.refusals = dict(self.refusals)
+        other.going = self.going
+        other.answers = self.answers
+        other.refusals = self.refusals
         return other
 
 
@@ -51,13 +53,14 @@ def views_for(scene, visitor):
 def with_page(scene, visitor):
     """Return the scene behind the opening of a page."""
     new = scene.copied()
-    new.pages.append((visitor, views_for(new, visitor)))
+    new.pages = [*scene.pages, (visitor, views_for(scene, visitor))]
     return new
 
 
 def without_page(scene, page):
     """Return the scene behind the closing of a page."""
     new = scene.copied()
+    new.pages = list(scene.pages)
     new.pages[page] = None
     new.answers = {letter: answer for letter, answer in scene.answers.items() if answer[0] != page}
     return new
@@ -66,6 +69,7 @@ def without_page(scene, page):
 def with_views(scene, page, views):
     """Return the scene in which the page shows the views."""
     new = scene.copied()
+    new.pages = list(scene.pages)
     new.pages[page] = (scene.pages[page][0], views)
     return new
 
@@ -74,22 +78,23 @@ def with_letter(scene, page, row, seats):
     """Return the scene behind the sending of a letter; its number is that of the letters ahead of it."""
     new = scene.copied()
     visitor, views = scene.pages[page]
-    new.going[scene.letters] = (page, visitor, row, seats, views)
+    new.going = {**scene.going, scene.letters: (page, visitor, row, seats, views)}
     new.letters = scene.letters + 1
     return new
 
 
-def with_answer(scene, states, letter, length):
+def with_answer(scene, kinds, letter, length):
     """Return the scene in which the letter has come to the house."""
     new = scene.copied()
-    page, visitor, row, seats, views = new.going.pop(letter)
+    page, visitor, row, seats, views = scene.going[letter]
+    new.going = without_key(scene.going, letter)
     failed = failed_seats(scene, row, seats, visitor, views)
     if failed:
-        new.refusals[letter] = tuple(failed)
+        new.refusals = {**scene.refusals, letter: tuple(failed)}
     else:
-        do_row(new, states, row, seats, visitor, length)
+        do_row(new, kinds, row, seats, visitor, length)
     if new.pages[page] is not None:
-        new.answers[letter] = (page, views_for(new, visitor))
+        new.answers = {**scene.answers, letter: (page, views_for(new, visitor))}
     return new
 
 
@@ -97,24 +102,24 @@ def with_heard(scene, letter):
     """Return the scene in which the answer of the letter has reached its page."""
     page, views = scene.answers[letter]
     new = with_views(scene, page, views)
-    new.answers.pop(letter)
+    new.answers = without_key(scene.answers, letter)
     return new
 
 
 def without_letter(scene, letter):
     """Return the scene in which the letter, or its answer, is lost."""
     new = scene.copied()
-    if letter in new.going:
-        new.going.pop(letter)
+    if letter in scene.going:
+        new.going = without_key(scene.going, letter)
     else:
-        new.answers.pop(letter)
+        new.answers = without_key(scene.answers, letter)
     return new
 
 
-def with_sweep(scene, states, row, seat, length):
+def with_sweep(scene, kinds, row, seat, length):
     """Return the scene behind a sweep that is done."""
     new = scene.copied()
-    do_row(new, states, row, (seat,), None, length)
+    do_row(new, kinds, row, (seat,), None, length)
     return new
 
 
@@ -123,6 +128,13 @@ def with_moments(scene, moments):
     new = scene.copied()
     new.moment = scene.moment + moments
     return new
+
+
+def without_key(table, key):
+    """Return a copy of the dict without one of its keys."""
+    other = dict(table)
+    other.pop(key)
+    return other
 
 
 def failed_seats(scene, row, seats, visitor, views):
@@ -139,12 +151,16 @@ def can_sweep(scene, row, seat):
     return not failed_looks(row, scene.records[seat], None, None, scene.moment)
 
 
-def do_row(scene, states, row, seats, sender, length):
+def do_row(scene, kinds, row, seats, sender, length):
     """Do the step of the row at each of the seats of this scene, which is new."""
+    if not seats:
+        return
+    scene.records = list(scene.records)
+    scene.pasts = list(scene.pasts)
     for seat in seats:
         ahead = scene.records[seat]
-        behind = done_record(states, row, ahead, sender, scene.moment + length)
+        behind = done_record(kinds, row, ahead, sender, scene.moment + length)
         scene.records[seat] = behind
         scene.pasts[seat] = past_behind(scene.pasts[seat], ahead, behind)
-        wrongs = wrongs_of(states, ahead, behind, sender, scene.moment)
+        wrongs = wrongs_of(kinds, ahead, behind, sender, scene.moment)
         scene.found.extend([(seat, wrong) for wrong in wrongs])

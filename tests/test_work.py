@@ -1,0 +1,62 @@
+"""How much work an answer takes, in calls instead of seconds: a clock would tell of the machine, too."""
+
+import sys
+import unittest
+
+from onehold.books import check_book, read_book, show_book
+from onehold.houses import House
+from onehold.situations import after, effect, steps_at
+
+STATES = (("held", True, False), ("kept", True, False), ("sold", False, True), ("gone", False, True))
+LOOKS = ("not sold", "not gone", "mine", "other", "same", "still", "running", "unpaid")
+SHOWN = ("my held", "others held", "my kept", "free")
+MARKS = ("new", "refund", "keep")
+LARGE = (STATES, tuple([("row" + sign, SHOWN, LOOKS, "take kept", MARKS) for sign in "abcdefgh"]))
+OPEN = (STATES, tuple([("row" + sign, SHOWN, LOOKS[:2], "take kept", MARKS) for sign in "abcdefgh"]))
+SITUATION = ("held", "running", "none", ("held",))
+
+
+def calls_of(function):
+    """How many functions, own and builtin ones, are called by it."""
+    counts = [0]
+
+    def seen(frame, event, thing):
+        if event in ("call", "c_call"):
+            counts[0] += 1
+
+    sys.setprofile(seen)
+    try:
+        function()
+    finally:
+        sys.setprofile(None)
+    return counts[0]
+
+
+class Work(unittest.TestCase):
+    """Bounds with a quarter or more to spare; a check that makes lists anew for each row breaks them."""
+
+    def check(self, most, function):
+        self.assertLessEqual(calls_of(function), most)
+
+    def test_books(self):
+        text = show_book(LARGE)
+        self.check(220, lambda: check_book(LARGE))
+        self.check(330, lambda: show_book(LARGE))
+        self.check(430, lambda: read_book(text))
+
+    def test_steps(self):
+        self.check(400, lambda: list(steps_at(LARGE, SITUATION)))
+        self.check(400, lambda: list(steps_at(LARGE, SITUATION, world="fresh")))
+        self.check(600, lambda: list(steps_at(OPEN, SITUATION)))
+        step = list(steps_at(OPEN, SITUATION))[-2]
+        self.check(320, lambda: after(OPEN, SITUATION, step))
+        self.check(320, lambda: effect(OPEN, SITUATION, step))
+
+    def test_houses(self):
+        self.check(250, lambda: House(LARGE, seats=6))
+        house = House(LARGE, seats=6)
+        self.check(60, house.twin)
+
+
+if __name__ == "__main__":
+    unittest.main()
