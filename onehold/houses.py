@@ -261,6 +261,11 @@ class GuardedHouse(House):
         super()._enter(steps)
 
 
+def scenes_of(house):
+    """Return the list of the scenes of the house: the first one, and the one behind each event of its story."""
+    return list(house._scenes)
+
+
 def check_length(length):
     """Raise BadLength for a time, or a number of moments, that is less than 1."""
     if length < 1:

@@ -8,6 +8,7 @@ from onehold.books import FREE, view_word
 
 FIRST_RECORD = ("free", None, 0, 0, None, (), False)
 SHUT_SITUATION = ("", "", "shut", ())
+WRONGS = ("twice", "astray", "unpaid", "taken")
 TIMED = "timed"
 SOLD = "sold"
 HELD = "held"
@@ -89,12 +90,19 @@ def sets_until(kinds, deed):
 def done_record(kinds, row, record, sender, end):
     """Return the record behind the step of the row; end is the moment where a new time ends."""
     _, _, _, deed, marks = row
-    old, was, number, turn, until, kept, astray = record
-    state, who = done_state(deed, old, was, sender)
+    state, was, number, turn, until, kept, astray = record
+    who = was
+    verb, _, word = deed.partition(" ")
+    if verb == "take":
+        state, who = word, sender
+    elif verb == "move":
+        state = word
+    elif verb == FREE:
+        state, who = FREE, None
     kind = kinds[state]
     if kind != TIMED:
         until = None
-    elif deed not in ("", FREE):
+    elif verb != "":
         until = end
     if "refund" in marks:
         kept, astray = (), False
@@ -102,18 +110,9 @@ def done_record(kinds, row, record, sender, end):
         kept = (*kept, sender)
     if "new" in marks or who is not None and who != was:
         number = number + 1
-    astray = astray or kept != () and not (kind == SOLD and are_all(kept, who))
+    if kept and not (kind == SOLD and are_all(kept, who)):
+        astray = True
     return (state, who, number, turn + 1, until, kept, astray)
-
-
-def done_state(deed, state, who, sender):
-    """Return the state and who behind the deed."""
-    verb, _, word = deed.partition(" ")
-    if verb == "take":
-        return (word, sender)
-    if verb == "move":
-        return (word, who)
-    return (FREE, None) if deed == FREE else (state, who)
 
 
 def are_all(payers, who):

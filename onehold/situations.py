@@ -108,7 +108,7 @@ def steps_of(rows, situation, world):
     """Return the list of the steps of the rows at the situation, and of the clock."""
     if situation == SHUT_SITUATION:
         return []
-    record = record_for(situation)
+    record = record_for(situation[:3])
     facts = seat_facts(record, NOW)
     owned = has_owner(situation)
     steps = []
@@ -175,9 +175,9 @@ def row_named(rows, name):
     return [row for row in rows if row[0] == name][0]
 
 
-def record_for(situation):
-    """Return the record that stands for the situation, which is not shut."""
-    state, clock, money, _ = situation
+def record_for(spot):
+    """Return the record that stands for all situations with this (state, clock, money)."""
+    state, clock, money = spot
     who = None if state == FREE else OWNER
     return (state, who, 1, 1, UNTILS[clock], PAYERS[money], money == "astray")
 
@@ -188,7 +188,7 @@ def behind_step(kinds, rows, situation, step):
     name, role, _, _ = step
     if step == CLOCK_STEP:
         return ((state, "over", money, past), ())
-    ahead = record_for(situation)
+    ahead = record_for(situation[:3])
     behind = done_record(kinds, row_named(rows, name), ahead, SENDERS[role], NEW_END)
     wrongs = wrongs_of(kinds, ahead, behind, SENDERS[role], NOW)
     return (situation_of(behind, past_behind(past, ahead, behind), NOW), tuple(wrongs))
@@ -200,7 +200,7 @@ def effect_of(kinds, rows, situation, step):
     if step == CLOCK_STEP:
         return ("others", "same", "same", "same", behind, wrongs)
     row = row_named(rows, step[0])
-    ahead = record_for(situation)
+    ahead = record_for(situation[:3])
     record = done_record(kinds, row, ahead, SENDERS[step[1]], NEW_END)
     doer = "holder" if step[1] == "owner" and situation[0] != FREE else "others"
     number = "same" if record[2] == ahead[2] else "rises"

@@ -83,3 +83,23 @@ def random_row(rng, states, name):
     least = 0 if deed else 1
     return (name, shown, tuple(rng.sample(looks, rng.choice([0, 0, 1, 1, 2]))), deed,
             tuple(rng.sample(marks, min(len(marks), rng.choice([least, least, 1, 2])))))
+
+
+def busy_book(rng, most_states=3, most_rows=6):
+    """A book, made at random, whose runs reach much: its first row takes a free seat, its looks are few."""
+    kinds = [(False, False), (True, False), (True, False), (False, True)]
+    words = rng.sample(["held", "sold", "kept", "apart"], rng.randint(1, most_states))
+    states = tuple((word, *rng.choice(kinds)) for word in words)
+    views = ["free"] + [f"{whose} {word}" for whose in ("my", "others") for word in words]
+    rows = [("hold", ("free",), ("at free",), "take " + words[0], ())]
+    for name in rng.sample("abcdefgh", rng.randint(1, most_rows - 1)):
+        sweep = rng.random() < 0.2
+        shown = () if sweep else tuple(rng.sample(views, rng.randint(1, len(views))))
+        looks = [look for look in looks_for((states, ())) if not (sweep and look in ("mine", "other", "same", "still"))]
+        deeds = ["free", "time"] + ["move " + word for word in words] * 2
+        deed = rng.choice(deeds if sweep else deeds + ["take " + word for word in words] * 3)
+        marks = [mark for mark in ("new", "refund", "keep")
+                 if not (mark == "new" and deed == "free") and not (mark == "keep" and sweep)]
+        rows.append((name, shown, tuple(rng.sample(looks, rng.choice([0, 1, 1, 2]))), deed,
+                     tuple(rng.sample(marks, rng.choice([0, 0, 1])))))
+    return (states, tuple(rows))

@@ -1,4 +1,4 @@
-"""The examples of points [8], [15] and [19], word by word as the document shows them."""
+"""The examples of the points up to [24], word by word as the document shows them."""
 
 import doctest
 import unittest
@@ -43,6 +43,42 @@ AFTER = r'''
 (('sold', '', 'good', ('held',)), ())
 '''
 
+VERDICTS = r'''
+>>> from onehold.books import read_book
+>>> from onehold.verdicts import verdict
+>>> book = read_book("states: held timed, sold sold\nhold: free ? at free ! take held\npay: my held ? mine ! take sold, keep\n")
+>>> (verdict(book, "twice").steps, verdict(book, "twice", world="fresh").safe, verdict(book, "taken").safe)
+(3, True, True)
+'''
+
+TABLES = r'''
+>>> from onehold.books import read_book
+>>> from onehold.tables import table
+>>> from onehold.verdicts import is_table
+>>> book = read_book("states: held timed\nhold: free ? at free ! take held\n")
+>>> (table(book), is_table(book, "taken", table(book), None))
+([(('free', '', 'none', ()), 0), (('held', 'over', 'none', ()), 1), (('held', 'running', 'none', ()), 1)], True)
+'''
+
+FAIR = r'''
+>>> from onehold.books import read_book
+>>> from onehold.fairness import fair_sets
+>>> text = "states: held timed\nhold: free ? at free ! take held\nagain: others held ? over ! take held\n"
+>>> book = read_book(text + "longer: my held ? at held ! time\n")
+>>> (fair_sets(book), fair_sets(book, world="fresh"))
+([(('held', 'running', 'none', ('held',)),)], [])
+'''
+
+RUNS = r'''
+>>> from onehold.books import read_book
+>>> from onehold.runs import course, to_letters
+>>> book = read_book("states: held timed, sold sold\nhold: free ? at free ! take held\npay: my held ? mine ! take sold, keep\n")
+>>> events = [("open", 4), ("old", 0, ("my held",)), ("open", 4), ("press", 1, "hold", (0,)), ("comes", 0, 3)]
+>>> events = events + [("press", 0, "pay", (0,)), ("tick", 9), ("comes", 1, 1)]
+>>> (course(book, events)[-1], course(book, to_letters(book, events)) == course(book, events))
+((9, ('sold', 4, 1, 2, None, (4,), False)), True)
+'''
+
 
 class Examples(unittest.TestCase):
 
@@ -65,6 +101,18 @@ class Examples(unittest.TestCase):
 
     def test_point_19_after(self):
         self.check(AFTER, 4)
+
+    def test_point_22_verdicts(self):
+        self.check(VERDICTS, 4)
+
+    def test_point_22_tables(self):
+        self.check(TABLES, 5)
+
+    def test_point_23(self):
+        self.check(FAIR, 5)
+
+    def test_point_24(self):
+        self.check(RUNS, 6)
 
 
 if __name__ == "__main__":

@@ -16,6 +16,13 @@ INTERFACE = {
                "what_if(house, events)"],
     "situations": ["steps_at(book, situation, *, world='late')", "after(book, situation, step)",
                    "effect(book, situation, step)"],
+    "tables": ["table(book, *, world='late')"],
+    "fairness": ["is_fair_set(book, situations, *, world='late')", "fair_sets(book, *, world='late')"],
+    "verdicts": ["Verdict(safe, steps=None, path=None, members=None, events=None)",
+                 "verdict(book, wrong, *, world='late')", "is_run(book, wrong, path, *, world='late')",
+                 "is_table(book, wrong, rows, steps, *, world='late')", "let_in(book, wrong, situations, further)"],
+    "runs": ["events_of(book, path)", "course(book, events)", "to_pages(book, events)", "to_letters(book, events)",
+             "to_answers(book, events)", "to_two(book, events)", "fewest_visitors(book, wrong)"],
 }
 METHODS = [
     "open_page(self, visitor)", "close_page(self, page)", "old_answer(self, page, *words)", "refresh(self, page)",
@@ -71,6 +78,9 @@ class Interface(unittest.TestCase):
             self.assertIn(signature, found)
         self.assertIsInstance(vars(house)["now"], property)
 
+    def test_the_truth_of_a_verdict_is_its_own(self):
+        self.assertIn("__bool__", vars(importlib.import_module("onehold.verdicts").Verdict))
+
     def test_steps_at_is_a_generator(self):
         self.assertTrue(inspect.isgeneratorfunction(importlib.import_module("onehold.situations").steps_at))
 
@@ -114,11 +124,38 @@ class Form(unittest.TestCase):
                 if isinstance(node, ast.ImportFrom):
                     self.assertLessEqual({alias.asname or alias.name for alias in node.names}, used, name)
 
+    def test_local_names_are_no_imports_and_no_classes(self):
+        for name, _, tree in self.each():
+            taken = {thing.name for thing in tree.body if isinstance(thing, ast.ClassDef)}
+            taken |= {alias.name for node in tree.body if isinstance(node, ast.ImportFrom) for alias in node.names}
+            for node in ast.walk(tree):
+                if isinstance(node, ast.FunctionDef):
+                    self.assertEqual(taken & set(bound_names(node)), set(), (name, node.name))
+
+    def test_no_file_imports_itself_through_others(self):
+        imports = {"onehold." + name[:-3]: {node.module for node in tree.body if isinstance(node, ast.ImportFrom)}
+                   for name, _, tree in self.each()}
+        while imports:
+            free = [name for name, others in imports.items() if not others & set(imports)]
+            self.assertNotEqual(free, [], imports)
+            imports = {name: others for name, others in imports.items() if name not in free}
+
+    def test_names_of_methods_are_no_names_of_attributes(self):
+        methods, attributes = set(), set()
+        for _, _, tree in self.each():
+            for node in ast.walk(tree):
+                if isinstance(node, ast.ClassDef):
+                    methods |= {thing.name for thing in node.body if isinstance(thing, ast.FunctionDef)}
+                if isinstance(node, ast.Attribute) and isinstance(node.ctx, ast.Store):
+                    attributes.add(node.attr)
+        self.assertEqual(methods & attributes, set())
+
     def test_builtins(self):
         for name, _, tree in self.each():
             bound = bound_names(tree)
             for word in bound:
-                self.assertFalse(hasattr(builtins, word) and not word.startswith("__"), (name, word))
+                # A doctest that ran ahead leaves a "_" among the builtins.
+                self.assertFalse(word != "_" and hasattr(builtins, word) and not word.startswith("__"), (name, word))
             for node in ast.walk(tree):
                 if isinstance(node, ast.Name) and node.id not in bound:
                     self.assertIn(node.id, BUILTINS, name)
