@@ -129,13 +129,18 @@ def wrong_part(choices, names, row):
         return "name"
     if not are_some_of(shown, choices.views):
         return "shown"
-    if not are_some_of(looks, choices.looks) or not shown and [look for look in looks if look in SENDER_LOOKS]:
+    if not are_some_of(looks, choices.looks) or (not shown and asks_sender(looks)):
         return "looks"
     if deed not in choices.deeds and not (shown and deed in choices.takes):
         return "deed"
     if not are_marks(marks, deed, shown):
         return "marks"
     return None
+
+
+def asks_sender(looks):
+    """Tell whether one of the looks is at the sender or at the view that its page showed."""
+    return any([look in SENDER_LOOKS for look in looks])
 
 
 def are_some_of(parts, choice):
@@ -150,7 +155,7 @@ def are_marks(marks, deed, shown):
     """Tell whether the marks may stand in a row with this deed and these shown words."""
     if not marks:
         return deed != ""
-    if "new" in marks and deed == FREE or "keep" in marks and not shown:
+    if ("new" in marks and deed == FREE) or ("keep" in marks and not shown):
         return False
     return are_some_of(marks, MARKS)
 
@@ -195,14 +200,18 @@ def read_states(line):
 def read_row(line):
     """Return the row of the line, or None if it has not the form of a row; its parts may be wrong."""
     name, _, rest = line.partition(":")
-    shown, _, rest = rest.partition(" ?")
-    looks, _, rest = rest.partition(" !")
-    done = read_list(rest)
+    shown_text, _, rest = rest.partition(" ?")
+    looks_text, sign, done_text = rest.partition(" !")
+    shown, looks, done = read_list(shown_text), read_list(looks_text), read_list(done_text)
+    # The last sign is found only behind the others. Parts that are no words of a book are left to wrong_part.
+    if not sign or None in (shown, looks, done):
+        return None
     deed = done[0] if done and done[0] not in MARKS else ""
-    row = (name, read_list(shown), read_list(looks), deed, done[1:] if deed else done)
-    return row if show_row(row) == line else None
+    return (name, shown, looks, deed, done[1:] if deed else done)
 
 
 def read_list(text):
-    """Return the tuple of the parts that stand behind a blank in a row."""
-    return tuple(text[1:].split(", ")) if text else ()
+    """Return the tuple of the parts that stand behind a blank in a row, or None if the blank is missing."""
+    if not text:
+        return ()
+    return tuple(text[1:].split(", ")) if text[0] == " " else None

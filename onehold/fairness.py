@@ -165,11 +165,12 @@ def gathered(sources, start, taken):
     found = [start]
     waiting = [start]
     while waiting:
-        for code in sources[waiting.pop()]:
-            if code not in taken:
-                taken[code] = True
-                found.append(code)
-                waiting.append(code)
+        code = waiting.pop()
+        for source in sources[code]:
+            if source not in taken:
+                taken[source] = True
+                found.append(source)
+                waiting.append(source)
     return found
 
 

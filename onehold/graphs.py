@@ -165,7 +165,7 @@ def need_of(graph, spot, row, role, ages):
     """Return the bits of which a past has one where the role can send the row by views of these ages."""
     if role == "house":
         return 1
-    if role == "owner" and not spot.owned or role == "outsider" and spot.owned and graph.alone:
+    if not has_role(graph, spot, role):
         return 0
     shown = row[1]
     is_who = role == "owner"
@@ -174,6 +174,11 @@ def need_of(graph, spot, row, role, ages):
     if "same" not in ages:
         return 0
     return sum([graph.bits[word] for word in graph.words if view_word(word, is_who) in shown])
+
+
+def has_role(graph, spot, role):
+    """Tell whether there is somebody with the role: an owner if the number has one, an outsider if one may be."""
+    return spot.owned if role == "owner" else not (graph.alone and spot.owned)
 
 
 def move_of(graph, spot, row, role, need, record):

@@ -84,7 +84,7 @@ def has_needs(row, record):
 def sets_until(kinds, deed):
     """Tell whether the deed gives the seat a new time."""
     _, _, word = deed.partition(" ")
-    return deed == "time" or word != "" and kinds[word] == TIMED
+    return deed == "time" or (word != "" and kinds[word] == TIMED)
 
 
 def done_record(kinds, row, record, sender, end):
@@ -108,7 +108,7 @@ def done_record(kinds, row, record, sender, end):
         kept, astray = (), False
     if "keep" in marks:
         kept = (*kept, sender)
-    if "new" in marks or who is not None and who != was:
+    if "new" in marks or (who is not None and who != was):
         number = number + 1
     if kept and not (kind == SOLD and are_all(kept, who)):
         astray = True

@@ -93,7 +93,7 @@ def is_open_situation(kinds, situation):
 
 def is_past(kinds, past):
     """Tell whether the tuple is ascending, without duplicates, of "free" and words."""
-    return past == () or all([word in kinds for word in past]) and past == tuple(sorted(set(past)))
+    return past == () or (all([word in kinds for word in past]) and past == tuple(sorted(set(past))))
 
 
 def is_step(rows, situation, step, world):
@@ -143,7 +143,14 @@ def ways_of(row, record, facts):
         return HOUSE_WAYS
     if not unmet:
         return (("owner", "outsider"), AGES)
-    return (roles_for(unmet, record), AGES[:1] if "still" in unmet else AGES[:2] if "same" in unmet else AGES)
+    return (roles_for(unmet, record), ages_for(unmet))
+
+
+def ages_for(looks):
+    """Return the tuple of the ages of views for which the looks "same" and "still" among these hold."""
+    if "still" in looks:
+        return AGES[:1]
+    return AGES[:2] if "same" in looks else AGES
 
 
 def roles_for(looks, record):
