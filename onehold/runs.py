@@ -115,7 +115,7 @@ def two_deeds(house):
 class Place:
     """Where a run along a path is: the situation here, and the visitor who is owner; the other one is 1 - owner.
 
-    turns has, for each state of the past, a turn at which the seat was in it.
+    turns has, for each state, the last of the smaller turns at which the seat was in it.
     Nobody is owner at first; the visitor 0, who is an outsider then, may become it.
     """
 
@@ -152,18 +152,17 @@ def step_deed(place, step):
     if age == "still":
         turn = place.turn
     elif age == "same":
+        # The state is in the past, so that its last turn is one of the present number.
         turn = [place.turns[state] for state in place.turns if view_word(state, role == "owner") == word][0]
     return Letter(visitor, name, LENGTH, word, turn)
 
 
 def go_along(place, step, told):
     """Go to where the step leads, by what effect tells of it."""
-    _, who, number, _, behind, _ = told
+    _, who, _, _, behind, _ = told
     if step != CLOCK_STEP:
         place.turns[place.here[0]] = place.turn
         place.turn += 1
-    if number == "rises":
-        place.turns = {}
     if who == "outsider":
         place.owner = 1 - place.owner
     place.here = behind

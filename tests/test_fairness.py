@@ -100,6 +100,24 @@ class FairSets(unittest.TestCase):
                        states=states)
         self.check(book, [], [])
 
+    def test_a_part_of_a_greater_part(self):
+        """Over and running lead to each other, but from over a helper step also leads on, to the other set."""
+        book = book_of("hold: free ? at free ! take held\n", "stay: others held ? ! move held\n",
+                       "tip: others held ? over ! move held, keep\n")
+        sets = [(("held", "running", "astray", ("held",)),), (LONGER,)]
+        self.check(book, sets, sets)
+        self.assertIs(is_fair_set(book, [LONGER_OVER, LONGER]), False)
+
+    def test_ways_that_need_a_past(self):
+        """Only a page that saw "others kept" at the same number makes the hold longer."""
+        rows = ["first: free ? at free ! take kept\n", "next: my kept ? mine ! move held\n", "stir: my held ? ! refund\n",
+                "again: others held ? over ! take held\n", "renew: others kept ? same, running ! time\n"]
+        book = book_of(HOLD, *rows, "end: others kept ? ! free\n", states="states: held timed, kept\n")
+        seen = ("held", "running", "none", ("held", "kept"))
+        self.check(book, [(seen,)], [])
+        self.assertIn(LONGER, [situation for situation, _ in table(book)])
+        self.assertIs(is_fair_set(book, [LONGER]), False)
+
     def test_several_sets_in_order(self):
         book = book_of(KEEP, "stir: my kept ? ! refund\n", states=KEPT)
         self.check(book, [(STAY,), (STAYED,)], [(STAY,), (STAYED,)])

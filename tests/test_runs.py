@@ -320,6 +320,15 @@ class TwoVisitors(unittest.TestCase):
                   ("press", 0, "again", (0,)), ("comes", 5, 1)]
         self.check(MORE, events)
 
+    def test_pages_that_lag_at_a_number(self):
+        """"same" lets a page of the owner, and one of an outsider, act by what it saw earlier at the same number."""
+        book = book_of(HOLD, "longer: my held ? same ! time\n", "stir: others held ? same ! refund\n")
+        events = [("open", 5), ("press", 0, "hold", (0,)), ("comes", 0, 1), ("hear", 0), ("open", 6)]
+        for letter in range(1, 7):
+            events += [("press", letter % 2, ("longer", "stir")[letter % 2], (0,)), ("comes", letter, 2)]
+        self.assertEqual(len(course(book, events)), 7)
+        self.check(book, events)
+
     def test_payments(self):
         book = book_of(OPEN_ROWS)
         events = [("open", 7), ("open", 8), ("open", 9), ("press", 0, "pay", (0,)), ("comes", 0, 1), ("press", 1, "buy", (0,)),

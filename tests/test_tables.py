@@ -61,6 +61,23 @@ class Tables(unittest.TestCase):
         book = book_of("tip: free ? ! refund\n", "stale: my held ? at free, still ! take held\n")
         self.assertEqual(table(book), [(FIRST, 0), (("free", "", "none", ("free",)), 1)])
 
+    def test_a_letter_that_needs_a_past_of_the_right_way(self):
+        """kept is reached at once, but only behind held does a page that saw "others held" do something there."""
+        book = book_of(HOLD, "next: my held ? at held ! move kept\n", "quick: free ? at free ! take kept\n",
+                       "grab: others held ? same, at kept ! take sold\n", "sell: others held ? same, at kept ! move sold\n",
+                       states="states: held timed, kept, sold sold\n")
+        found = dict(table(book))
+        self.assertEqual([found[("kept", "", "none", past)] for past in ((), ("held",))], [1, 2])
+        self.assertEqual([found[("sold", "", "none", past)] for past in ((), ("held", "kept"))], [3, 3])
+        self.assertNotIn(("sold", "", "none", ("kept",)), found)
+
+    def test_a_clock_that_is_over_ahead_of_one_that_runs(self):
+        """A running time of this past comes only by a refund, one step later than the one that is over."""
+        book = book_of(HOLD, "stir: my held ? over ! refund\n", "tip: my held ? over ! keep\n",
+                       "renew: my held ? paid ! time, refund\n")
+        found = dict(table(book))
+        self.assertEqual([found[("held", clock, "none", ("held",))] for clock in ("over", "running")], [2, 3])
+
     def test_pasts_and_numbers_in_order(self):
         rows = table(book_of(OPEN_ROWS))
         self.assertEqual(rows, sorted(rows))
