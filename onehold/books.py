@@ -201,10 +201,10 @@ def read_row(line):
     """Return the row of the line, or None if it has not the form of a row; its parts may be wrong."""
     name, _, rest = line.partition(":")
     shown_text, _, rest = rest.partition(" ?")
-    looks_text, sign, done_text = rest.partition(" !")
+    looks_text, _, done_text = rest.partition(" !")
     shown, looks, done = read_list(shown_text), read_list(looks_text), read_list(done_text)
-    # The last sign is found only behind the others. Parts that are no words of a book are left to wrong_part.
-    if not sign or None in (shown, looks, done):
+    # A line that lacks a sign gives a row that does nothing, which wrong_part finds, as it finds unknown words.
+    if None in (shown, looks, done):
         return None
     deed = done[0] if done and done[0] not in MARKS else ""
     return (name, shown, looks, deed, done[1:] if deed else done)

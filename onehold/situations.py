@@ -98,9 +98,7 @@ def is_past(kinds, past):
 
 def is_step(rows, situation, step, world):
     """Tell whether the tuple is a step of the situation, which is one of the book."""
-    if situation == SHUT_SITUATION or not step:
-        return False
-    named = [row for row in rows if row[0] == step[0]]
+    named = [row for row in rows if step and row[0] == step[0]]
     return step in steps_of(named, situation, world)
 
 
