@@ -4,8 +4,11 @@ import sys
 import unittest
 
 from onehold.books import check_book, read_book, show_book
+from onehold.fairness import fair_sets
 from onehold.houses import House
 from onehold.situations import after, effect, steps_at
+from onehold.tables import table
+from onehold.verdicts import is_table, verdict
 
 STATES = (("held", True, False), ("kept", True, False), ("sold", False, True), ("gone", False, True))
 LOOKS = ("not sold", "not gone", "mine", "other", "same", "still", "running", "unpaid")
@@ -14,6 +17,9 @@ MARKS = ("new", "refund", "keep")
 LARGE = (STATES, tuple([("row" + sign, SHOWN, LOOKS, "take kept", MARKS) for sign in "abcdefgh"]))
 OPEN = (STATES, tuple([("row" + sign, SHOWN, LOOKS[:2], "take kept", MARKS) for sign in "abcdefgh"]))
 SITUATION = ("held", "running", "none", ("held",))
+DEEDS = ("take held", "take kept", "take sold", "move gone", "move kept", "time", "free", "move held")
+WIDE = (STATES, tuple([("row" + sign, SHOWN, (), deed, (deed[:4] == "take") * ("keep",) or ("refund",))
+                       for sign, deed in zip("abcdefgh", DEEDS)]))
 
 
 def calls_of(function):
@@ -51,6 +57,15 @@ class Work(unittest.TestCase):
         step = list(steps_at(OPEN, SITUATION))[-2]
         self.check(320, lambda: after(OPEN, SITUATION, step))
         self.check(320, lambda: effect(OPEN, SITUATION, step))
+
+    def test_tables(self):
+        """WIDE reaches many situations by few spots: each row is tried once for a spot, not for a situation."""
+        rows = table(WIDE)
+        self.assertGreater(len(rows), 150)
+        self.check(7000, lambda: table(WIDE))
+        self.check(10000, lambda: fair_sets(WIDE))
+        self.check(2000, lambda: verdict(WIDE, "taken"))
+        self.check(10000, lambda: is_table(WIDE, "taken", rows, 2))
 
     def test_houses(self):
         self.check(250, lambda: House(LARGE, seats=6))
