@@ -16,8 +16,8 @@ from onehold.errors import (
     WrongAhead,
 )
 from onehold.scenes import (
-    Scene,
     can_sweep,
+    first_scene,
     with_answer,
     with_heard,
     with_letter,
@@ -56,7 +56,7 @@ class House:
         self._book = book
         self._kinds = kinds_of(book[0])
         self._story = []
-        self._scenes = [Scene(seats)]
+        self._scenes = [first_scene(seats)]
 
     @property
     def now(self):

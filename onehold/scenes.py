@@ -12,6 +12,7 @@ from onehold.seats import FIRST_RECORD, done_record, failed_looks, past_behind, 
 class Scene:
     """What a house is at one moment.
 
+    records and pasts have those of each seat; letters is how many have been sent.
     pages has a visitor and the shown views for each page, None for a closed one.
     going has (page, visitor, row, seats, views) for each letter that is on its
     way to the house; one that asks to refresh has the row None and no seats.
@@ -20,29 +21,27 @@ class Scene:
     found has (seat, wrong) for the wrongs of the last event alone.
     """
 
-    def __init__(self, seats):
-        self.moment = 0
-        self.records = [FIRST_RECORD] * seats
-        self.pasts = [()] * seats
-        self.pages = []
-        self.letters = 0
-        self.going = {}
-        self.answers = {}
-        self.refusals = {}
+    def __init__(self, moment, records, pasts, pages, letters, going, answers, refusals):
+        self.moment = moment
+        self.records = records
+        self.pasts = pasts
+        self.pages = pages
+        self.letters = letters
+        self.going = going
+        self.answers = answers
+        self.refusals = refusals
         self.found = []
 
     def copied(self):
         """Return a scene that is the same, but for found: nothing has happened in it yet."""
-        other = Scene(0)
-        other.moment = self.moment
-        other.records = self.records
-        other.pasts = self.pasts
-        other.pages = self.pages
-        other.letters = self.letters
-        other.going = self.going
-        other.answers = self.answers
-        other.refusals = self.refusals
-        return other
+        return Scene(
+            self.moment, self.records, self.pasts, self.pages, self.letters, self.going, self.answers, self.refusals
+        )
+
+
+def first_scene(seats):
+    """Return the scene of a house with so many seats ahead of all events."""
+    return Scene(0, [FIRST_RECORD] * seats, [()] * seats, [], 0, {}, {}, {})
 
 
 def views_for(scene, visitor):
