@@ -5,7 +5,39 @@ from onehold.errors import InvalidRow, InvalidStates, InvalidText
 FREE = "free"
 SENDER_LOOKS = ("mine", "other", "same", "still")
 RECORD_LOOKS = ("running", "over", "unpaid", "paid")
+# The looks that the rows of all books may have.
+COMMON_LOOKS = {
+    "at free": True,
+    "not free": True,
+    "mine": True,
+    "other": True,
+    "same": True,
+    "still": True,
+    "running": True,
+    "over": True,
+    "unpaid": True,
+    "paid": True,
+}
 MARKS = ("new", "refund", "keep")
+# The tuples of marks, none twice, in all orders.
+MARK_ORDERS = {
+    (): True,
+    ("new",): True,
+    ("refund",): True,
+    ("keep",): True,
+    ("new", "refund"): True,
+    ("refund", "new"): True,
+    ("new", "keep"): True,
+    ("keep", "new"): True,
+    ("refund", "keep"): True,
+    ("keep", "refund"): True,
+    ("new", "refund", "keep"): True,
+    ("new", "keep", "refund"): True,
+    ("refund", "new", "keep"): True,
+    ("refund", "keep", "new"): True,
+    ("keep", "new", "refund"): True,
+    ("keep", "refund", "new"): True,
+}
 MOST_LETTERS = 12
 
 
@@ -13,14 +45,22 @@ class Choices:
     """What the rows of a book with these states may show, look at and do: dicts of True.
 
     Rows are looked at many times, so that a table costs less than a list for each of them.
+    takes are the deeds that a sweep cannot have.
     """
 
     def __init__(self, states):
-        words = words_of(states)
-        self.views = {word: True for word in view_words(states)}
-        self.looks = {look: True for look in all_looks(states)}
-        self.deeds = {deed: True for deed in ["", FREE, "time"] + ["move " + word for word in words]}
-        self.takes = {"take " + word: True for word in words}
+        views = {FREE: True}
+        looks = dict(COMMON_LOOKS)
+        deeds = {"": True, FREE: True, "time": True}
+        takes = {}
+        for word, _, _ in states:
+            views["my " + word] = views["others " + word] = True
+            looks["at " + word] = looks["not " + word] = True
+            deeds["move " + word] = takes["take " + word] = True
+        self.views = views
+        self.looks = looks
+        self.deeds = deeds
+        self.takes = takes
 
 
 def check_book(book):
@@ -57,8 +97,7 @@ def show_book(book):
     """Return the text of the book."""
     check_book(book)
     states, rows = book
-    lines = [show_states(states)] + [show_row(row) for row in rows]
-    return "".join([line + "\n" for line in lines])
+    return "\n".join([show_states(states), *[show_row(row) for row in rows], ""])
 
 
 def read_book(text):
@@ -67,15 +106,7 @@ def read_book(text):
     states = read_states(lines[0]) if lines else None
     if states is None:
         raise InvalidText(1)
-    choices = Choices(states)
-    names = {}
-    rows = []
-    for number, line in enumerate(lines[1:], start=2):
-        row = read_row(line)
-        if row is None or wrong_part(choices, names, row) is not None:
-            raise InvalidText(number)
-        names[row[0]] = True
-        rows.append(row)
+    rows = read_rows(Choices(states), lines)
     if unended:
         raise InvalidText(len(lines) + 1)
     return (states, tuple(rows))
@@ -127,37 +158,21 @@ def wrong_part(choices, names, row):
     name, shown, looks, deed, marks = row
     if name in names or not is_name(name):
         return "name"
-    if not are_some_of(shown, choices.views):
+    # A part that is unknown, or there twice, makes the set smaller than the tuple.
+    if len({word for word in shown if word in choices.views}) < len(shown):
         return "shown"
-    if not are_some_of(looks, choices.looks) or (not shown and asks_sender(looks)):
+    if len({look for look in looks if look in choices.looks}) < len(looks) or (not shown and asks_sender(looks)):
         return "looks"
     if deed not in choices.deeds and not (shown and deed in choices.takes):
         return "deed"
-    if not are_marks(marks, deed, shown):
+    if marks not in MARK_ORDERS or (deed == FREE and "new" in marks) or (not shown and "keep" in marks):
         return "marks"
-    return None
+    return None if marks or deed else "marks"
 
 
 def asks_sender(looks):
     """Tell whether one of the looks is at the sender or at the view that its page showed."""
     return any([look in SENDER_LOOKS for look in looks])
-
-
-def are_some_of(parts, choice):
-    """Tell whether all the parts are in the choice, none of them twice."""
-    for part in parts:
-        if part not in choice:
-            return False
-    return len(set(parts)) == len(parts)
-
-
-def are_marks(marks, deed, shown):
-    """Tell whether the marks may stand in a row with this deed and these shown words."""
-    if not marks:
-        return deed != ""
-    if ("new" in marks and deed == FREE) or ("keep" in marks and not shown):
-        return False
-    return are_some_of(marks, MARKS)
 
 
 def show_states(states):
@@ -176,42 +191,47 @@ def show_state(state):
 def show_row(row):
     """Return the line of the row, without its newline."""
     name, shown, looks, deed, marks = row
-    done = (deed, *marks) if deed else marks
-    return name + ":" + show_list(shown) + " ?" + show_list(looks) + " !" + show_list(done)
-
-
-def show_list(parts):
-    """Return the parts as they stand in a row, behind a blank if there are any."""
-    return " " + ", ".join(parts) if parts else ""
+    words = " " + ", ".join(shown) if shown else ""
+    asked = " " + ", ".join(looks) if looks else ""
+    done = ", ".join((deed, *marks) if deed else marks)
+    return f"{name}:{words} ?{asked} ! {done}"
 
 
 def read_states(line):
     """Return the states of the line, or None if no book has this line."""
-    parts = [part.partition(" ") for part in line.removeprefix("states: ").split(", ")]
-    states = tuple([(word, kind == "timed", kind == "sold") for word, _, kind in parts])
+    lead, _, rest = line.partition(" ")
     words = {}
-    for state in states:
-        if not is_state(state, words):
+    states = []
+    for part in rest.split(", "):
+        word, blank, kind = part.partition(" ")
+        state = (word, kind == "timed", kind == "sold")
+        if lead != "states:" or not is_state(state, words) or show_state(state) != part:
             return None
-        words[state[0]] = True
-    return states if show_states(states) == line else None
+        words[word] = True
+        states.append(state)
+    return tuple(states)
 
 
-def read_row(line):
-    """Return the row of the line, or None if it has not the form of a row; its parts may be wrong."""
-    name, _, rest = line.partition(":")
-    shown_text, _, rest = rest.partition(" ?")
-    looks_text, _, done_text = rest.partition(" !")
-    shown, looks, done = read_list(shown_text), read_list(looks_text), read_list(done_text)
-    # A line that lacks a sign gives a row that does nothing, which wrong_part finds, as it finds unknown words.
-    if None in (shown, looks, done):
-        return None
-    deed = done[0] if done and done[0] not in MARKS else ""
-    return (name, shown, looks, deed, done[1:] if deed else done)
-
-
-def read_list(text):
-    """Return the tuple of the parts that stand behind a blank in a row, or None if the blank is missing."""
-    if not text:
-        return ()
-    return tuple(text[1:].split(", ")) if text[0] == " " else None
+def read_rows(choices, lines):
+    """Return the list of the rows of the lines behind the first one, or raise InvalidText."""
+    names = {}
+    rows = []
+    for number, line in enumerate(lines[1:], start=2):
+        name, _, rest = line.partition(":")
+        seen, _, rest = rest.partition(" ?")
+        asked, _, done = rest.partition(" ! ")
+        lead, _, words = seen.partition(" ")
+        other_lead, _, more = asked.partition(" ")
+        shown = tuple(words.split(", ")) if seen else ()
+        looks = tuple(more.split(", ")) if asked else ()
+        deed, *marks = done.split(", ")
+        if deed in MARKS:
+            row = (name, shown, looks, "", (deed, *marks))
+        else:
+            row = (name, shown, looks, deed, tuple(marks))
+        # A line that lacks one of the signs has no deed here, and nothing in the place of marks.
+        if lead or other_lead or not deed or wrong_part(choices, names, row) is not None:
+            raise InvalidText(number)
+        names[name] = True
+        rows.append(row)
+    return rows

@@ -163,12 +163,7 @@ class House:
     def wrongs(self, seat):
         """Return the list of (index, wrong) of the steps of the seat so far."""
         self._check_seat(seat)
-        return [
-            (index, wrong)
-            for index, scene in enumerate(self._scenes[1:])
-            for at, wrong in scene.found
-            if at == seat
-        ]
+        return list(self._scenes[-1].noted[seat])
 
     def story(self):
         """Return the list of the events so far."""

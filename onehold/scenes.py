@@ -12,7 +12,8 @@ from onehold.seats import FIRST_RECORD, done_record, failed_looks, past_behind, 
 class Scene:
     """What a house is at one moment.
 
-    records and pasts have those of each seat; letters is how many have been sent.
+    events is how many have happened, letters how many have been sent. records and
+    pasts have those of each seat, noted the tuple of (index, wrong) of its steps so far.
     pages has a visitor and the shown views for each page, None for a closed one.
     going has (page, visitor, row, seats, views) for each letter that is on its
     way to the house; one that asks to refresh has the row None and no seats.
@@ -21,10 +22,12 @@ class Scene:
     found has (seat, wrong) for the wrongs of the last event alone.
     """
 
-    def __init__(self, moment, records, pasts, pages, letters, going, answers, refusals):
+    def __init__(self, events, moment, records, pasts, noted, pages, letters, going, answers, refusals):
+        self.events = events
         self.moment = moment
         self.records = records
         self.pasts = pasts
+        self.noted = noted
         self.pages = pages
         self.letters = letters
         self.going = going
@@ -33,15 +36,24 @@ class Scene:
         self.found = []
 
     def copied(self):
-        """Return a scene that is the same, but for found: nothing has happened in it yet."""
+        """Return the scene behind one event more, of which nothing else is told yet."""
         return Scene(
-            self.moment, self.records, self.pasts, self.pages, self.letters, self.going, self.answers, self.refusals
+            self.events + 1,
+            self.moment,
+            self.records,
+            self.pasts,
+            self.noted,
+            self.pages,
+            self.letters,
+            self.going,
+            self.answers,
+            self.refusals,
         )
 
 
 def first_scene(seats):
     """Return the scene of a house with so many seats ahead of all events."""
-    return Scene(0, [FIRST_RECORD] * seats, [()] * seats, [], 0, {}, {}, {})
+    return Scene(0, 0, [FIRST_RECORD] * seats, [()] * seats, [()] * seats, [], 0, {}, {}, {})
 
 
 def views_for(scene, visitor):
@@ -161,5 +173,13 @@ def do_row(scene, kinds, row, seats, sender, length):
         behind = done_record(kinds, row, ahead, sender, scene.moment + length)
         scene.records[seat] = behind
         scene.pasts[seat] = past_behind(scene.pasts[seat], ahead, behind)
-        wrongs = wrongs_of(kinds, ahead, behind, sender, scene.moment)
-        scene.found.extend([(seat, wrong) for wrong in wrongs])
+        add_wrongs(scene, seat, wrongs_of(kinds, ahead, behind, sender, scene.moment))
+
+
+def add_wrongs(scene, seat, wrongs):
+    """Note the wrongs of the last step, which was done at the seat of this new scene."""
+    if not wrongs:
+        return
+    scene.found.extend([(seat, wrong) for wrong in wrongs])
+    scene.noted = list(scene.noted)
+    scene.noted[seat] = (*scene.noted[seat], *[(scene.events - 1, wrong) for wrong in wrongs])

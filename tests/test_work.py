@@ -1,6 +1,7 @@
 """How much work an answer takes, in calls instead of seconds: a clock would tell of the machine, too."""
 
 import sys
+import timeit
 import unittest
 
 from onehold.books import check_book, read_book, show_book
@@ -46,9 +47,9 @@ class Work(unittest.TestCase):
 
     def test_books(self):
         text = show_book(LARGE)
-        self.check(220, lambda: check_book(LARGE))
-        self.check(330, lambda: show_book(LARGE))
-        self.check(430, lambda: read_book(text))
+        self.check(165, lambda: check_book(LARGE))
+        self.check(220, lambda: show_book(LARGE))
+        self.check(280, lambda: read_book(text))
 
     def test_steps(self):
         self.check(400, lambda: list(steps_at(LARGE, SITUATION)))
@@ -68,9 +69,23 @@ class Work(unittest.TestCase):
         self.check(10000, lambda: is_table(WIDE, "taken", rows, 2))
 
     def test_houses(self):
-        self.check(250, lambda: House(LARGE, seats=6))
+        self.check(165, lambda: House(LARGE, seats=6))
         house = House(LARGE, seats=6)
         self.check(60, house.twin)
+
+    def test_wrongs_do_not_look_through_the_story(self):
+        """The only clock here: it compares a house with itself, so that a factor of ten tells nothing of the machine."""
+        house = House(LARGE)
+        house.tick()
+        short = least_time(lambda: house.wrongs(0))
+        for _ in range(2000):
+            house.tick()
+        self.assertLess(least_time(lambda: house.wrongs(0)), 10 * short)
+
+
+def least_time(function):
+    """The least time of some tries of the function."""
+    return min(timeit.repeat(function, number=20, repeat=20))
 
 
 if __name__ == "__main__":
