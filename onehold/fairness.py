@@ -1,7 +1,7 @@
 """Fairness: sets of situations in which a hold can stay for ever although its holder sends nothing."""
 
 from onehold.books import check_book, view_word
-from onehold.graphs import Graph, walked
+from onehold.graphs import graph_of, target_of, walked
 from onehold.seats import HELD, TIMED, sets_until
 from onehold.situations import check_world
 
@@ -10,8 +10,8 @@ def is_fair_set(book, situations, *, world="late"):
     """Tell whether the list of situations is a fair set of the world."""
     check_book(book)
     check_world(world)
-    graph = Graph(book, world)
-    codes = [graph.code_of(situation) for situation in situations]
+    graph = graph_of(book, world)
+    codes = [graph.frame.code_of(situation) for situation in situations]
     found = greatest_sets(graph, codes)
     # A fair set is the greatest one among its own members; a member that is there twice is found once.
     return len(found) == 1 and len(found[0]) == len(codes)
@@ -21,13 +21,13 @@ def fair_sets(book, *, world="late"):
     """Return the list of the greatest fair sets in the table of the world, ascending."""
     check_book(book)
     check_world(world)
-    graph = Graph(book, world)
+    graph = graph_of(book, world)
     return sorted([members_of(graph, codes) for codes in greatest_sets(graph, list(walked(graph).least))])
 
 
 def members_of(graph, codes):
     """Return the ascending tuple of the situations of the codes."""
-    return tuple(sorted([graph.situation_at(code) for code in codes]))
+    return tuple(sorted([graph.frame.situation_at(code) for code in codes]))
 
 
 class Rest:
@@ -64,54 +64,53 @@ def rests_of(graph, codes):
     links = {}
     rests = {}
     for code in codes:
-        spot = graph.spot_at(code)
-        if spot.base not in links:
-            links[spot.base] = links_of(graph, spot)
-        if links[spot.base] is not None:
-            rests[code] = rest_at(graph, code, links[spot.base])
+        node = graph.node_at(code)
+        base = node.spot.base
+        if base not in links:
+            links[base] = links_of(graph.frame, node)
+        if links[base] is not None:
+            rests[code] = rest_at(node.spot, code & (graph.width - 1), links[base])
     return rests
 
 
-def links_of(graph, spot):
-    """Return the list of (move, is_helper, is_timed) for the moves of others that do not end the hold.
+def links_of(frame, node):
+    """Return the list of (need, move, is_helper, is_timed) for the moves of others that do not end the hold.
 
     None stands for a spot that is not held, or where a helper step ends the hold.
     """
-    if not is_held(graph, spot):
+    if not is_held(frame, node.spot):
         return None
-    seen = view_word(spot.parts[0], False)
+    seen = view_word(node.spot.parts[0], False)
     links = []
-    for move in spot.moves:
+    for need, move in node.moves:
         if move.role != "owner":
             is_helper = move.role == "house" or seen in move.row[1]
-            if not ends_hold(graph, move):
-                links.append((move, is_helper, sets_until(graph.kinds, move.row[3])))
+            if not ends_hold(frame, move):
+                links.append((need, move, is_helper, sets_until(frame.kinds, move.row[3])))
             elif is_helper:
                 return None
     return links
 
 
-def is_held(graph, spot):
+def is_held(frame, spot):
     """Tell whether the seat is held there, and not shut."""
-    return graph.kinds.get(spot.parts[0], "") in (HELD, TIMED)
+    return frame.kinds.get(spot.parts[0], "") in (HELD, TIMED)
 
 
-def ends_hold(graph, move):
+def ends_hold(frame, move):
     """Tell whether a move of others ends a hold."""
-    behind = graph.spots[move.behind // graph.width]
-    return not is_held(graph, behind) or move.row[3][:5] == "take "
+    behind = frame.spots[move.behind // frame.width]
+    return not is_held(frame, behind) or move.row[3][:5] == "take "
 
 
-def rest_at(graph, code, links):
-    """Return the rest of the code, whose spot has these links."""
-    spot = graph.spot_at(code)
-    past = code & (graph.width - 1)
+def rest_at(spot, past, links):
+    """Return the rest of the situation with this past, whose spot has these links."""
     helped = []
     timed = []
     reached = [] if spot.over is None else [spot.over + past]
-    for move, is_helper, is_timed in links:
-        if past & move.need:
-            target = move.behind + (1 if move.rises else past | spot.bit)
+    for need, move, is_helper, is_timed in links:
+        if past & need:
+            target = target_of(spot, move, past)
             reached.append(target)
             if is_helper:
                 helped.append(target)
@@ -139,7 +138,7 @@ def can_time_go_on(graph, rests, knot):
     """Tell whether time can go on for ever in the knot: it is over or none runs, or a new one is set."""
     inside = {code: True for code in knot}
     for code in knot:
-        if graph.spot_at(code).over is None or any([target in inside for target in rests[code].timed]):
+        if graph.node_at(code).spot.over is None or any([target in inside for target in rests[code].timed]):
             return True
     return False
 

@@ -81,6 +81,15 @@ class PageRoad(Road):
         self.events.extend([("comes", number, letter.length), ("hear", number)])
 
 
+class ShortPageRoad(PageRoad):
+    """As PageRoad, but each page is closed as soon as its letter is done."""
+
+    def bring(self, letter):
+        """Send the letter from its page, hear its answer, and close the page."""
+        super().bring(letter)
+        self.events.append(("close", self.pages[letter]))
+
+
 class LetterRoad(Road):
     """Each visitor has one page; letters are sent when it shows what they need, and are late."""
 

@@ -2,6 +2,7 @@
 
 from onehold.books import check_book, view_word
 from onehold.errors import NotDone
+from onehold.frames import Frame
 from onehold.graphs import Graph, walk_to_wrong
 from onehold.houses import House, play, scenes_of
 from onehold.roads import OLD_TURN, AnswerRoad, Letter, LetterRoad, PageRoad, travelled
@@ -50,8 +51,9 @@ def fewest_visitors(book, wrong):
     """Return how many visitors it takes to bring the wrong about: 1, 2, or None if it cannot come."""
     check_book(book)
     check_run_wrong(wrong)
+    frame = Frame(book)
     for visitors in (1, 2):
-        _, code = walk_to_wrong(Graph(book, "late", visitors == 1), wrong)
+        _, code = walk_to_wrong(Graph(frame, "late", frame.masks, visitors == 1), (wrong,))
         if code is not None:
             return visitors
     return None
@@ -113,24 +115,27 @@ def two_deeds(house):
 
 
 class Place:
-    """Where a run along a path is: the situation here, and the visitor who is owner; the other one is 1 - owner.
+    """Where a run along a path is: the situation here, the visitor who is owner, and the next outsider.
 
     turns has, for each state, the last of the smaller turns at which the seat was in it.
-    Nobody is owner at first; the visitor 0, who is an outsider then, may become it.
+    Nobody is owner at first; the visitor 0, who is an outsider then, may become it. In
+    a crowd each letter of an outsider is another visitor's, otherwise there are two.
     """
 
-    def __init__(self):
+    def __init__(self, crowd):
+        self.crowd = crowd
         self.here = FIRST_SITUATION
         self.owner = 1
+        self.outsider = 0
         self.turn = 0
         self.turns = {}
 
 
-def path_deeds(book, path):
+def path_deeds(book, path, crowd=False):
     """Return the list of the deeds along the path, or raise NotDone."""
     states, rows = book
     kinds = kinds_of(states)
-    place = Place()
+    place = Place(crowd)
     deeds = []
     for step in path:
         if not is_step(rows, place.here, step, "late"):
@@ -147,7 +152,7 @@ def step_deed(place, step):
         return ("tick", LONGER)
     if role == "house":
         return ("sweep", name, 0, LENGTH)
-    visitor = place.owner if role == "owner" else 1 - place.owner
+    visitor = place.owner if role == "owner" else place.outsider
     turn = OLD_TURN
     if age == "still":
         turn = place.turn
@@ -163,6 +168,10 @@ def go_along(place, step, told):
     if step != CLOCK_STEP:
         place.turns[place.here[0]] = place.turn
         place.turn += 1
+    sender = place.outsider
+    if place.crowd and step[1] == "outsider":
+        place.outsider = sender + 1
     if who == "outsider":
-        place.owner = 1 - place.owner
+        place.outsider = place.outsider if place.crowd else place.owner
+        place.owner = sender
     place.here = behind

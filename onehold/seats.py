@@ -104,12 +104,14 @@ def done_record(kinds, row, record, sender, end):
         until = None
     elif verb != "":
         until = end
+    if who is not None and who != was:
+        number = number + 1
+    elif "new" in marks:
+        number = number + 1
     if "refund" in marks:
         kept, astray = (), False
     if "keep" in marks:
         kept = (*kept, sender)
-    if "new" in marks or (who is not None and who != was):
-        number = number + 1
     if kept and not (kind == SOLD and are_all(kept, who)):
         astray = True
     return (state, who, number, turn + 1, until, kept, astray)

@@ -1,7 +1,7 @@
 """Tables: all situations that runs of a book can reach."""
 
 from onehold.books import check_book
-from onehold.graphs import Graph, walked
+from onehold.graphs import graph_of, walked
 from onehold.situations import check_world
 
 
@@ -9,16 +9,16 @@ def table(book, *, world="late"):
     """Return the list of (situation, least), ascending: what is reached, and with how many steps."""
     check_book(book)
     check_world(world)
-    graph = Graph(book, world)
-    return rows_of(graph, walked(graph).least)
+    graph = graph_of(book, world)
+    return rows_of(graph.frame, walked(graph).least)
 
 
-def rows_of(graph, least):
+def rows_of(frame, least):
     """Return the list of (situation, least) of the codes, ascending."""
-    pasts = {code & (graph.width - 1): True for code in least}
-    order = sorted([(graph.past_at(past), past) for past in pasts])
+    pasts = {code & (frame.width - 1): True for code in least}
+    order = sorted([(frame.past_at(past), past) for past in pasts])
     bases = {}
-    for spot in graph.spots:
+    for spot in frame.spots:
         bases.setdefault(spot.parts, []).append(spot.base)
     rows = []
     for parts in sorted(list(bases)):

@@ -3,7 +3,7 @@
 from onehold.books import check_book, check_rows
 from onehold.errors import BadWrong
 from onehold.fairness import greatest_sets, members_of
-from onehold.graphs import Graph, has_wrong, path_along, step_to_wrong, walk_to_wrong, walked
+from onehold.graphs import graph_of, has_wrong, path_along, step_to_wrong, walk_to_wrong, walked
 from onehold.seats import WRONGS, kinds_of
 from onehold.situations import FIRST_SITUATION, behind_step, check_world, is_step
 
@@ -27,7 +27,7 @@ class Verdict:
 def verdict(book, wrong, *, world="late"):
     """Return the Verdict about the wrong in all runs of the world."""
     check_question(book, wrong, world)
-    graph = Graph(book, world)
+    graph = graph_of(book, world)
     return nobody_verdict(graph) if wrong == NOBODY else wrong_verdict(graph, wrong)
 
 
@@ -39,18 +39,18 @@ def is_run(book, wrong, path, *, world="late"):
         return False
     if wrong != NOBODY:
         return wrong in wrongs
-    graph = Graph(book, world)
-    code = graph.code_of(situation)
+    graph = graph_of(book, world)
+    code = graph.frame.code_of(situation)
     return any([code in codes for codes in greatest_sets(graph, list(walked(graph).least))])
 
 
 def is_table(book, wrong, rows, steps, *, world="late"):
     """Tell whether the rows show that no run with fewer steps has the wrong; with None, none at all."""
     check_question(book, wrong, world)
-    graph = Graph(book, world)
+    graph = graph_of(book, world)
     numbers = {}
     for situation, number in rows:
-        numbers[graph.code_of(situation)] = number
+        numbers[graph.frame.code_of(situation)] = number
     if len(numbers) < len(rows) or numbers.get(graph.first, None) != 0:
         return False
     if not all([leads_inside(graph, code, numbers) for code in numbers]):
@@ -58,7 +58,7 @@ def is_table(book, wrong, rows, steps, *, world="late"):
     if wrong == NOBODY:
         found = [code for codes in greatest_sets(graph, list(numbers)) for code in codes]
         return are_late(found, numbers, steps)
-    found = [code for code in numbers if has_wrong(graph, code, wrong)]
+    found = [code for code in numbers if has_wrong(graph, code, (wrong,))]
     return are_late(found, numbers, None if steps is None else steps - 1)
 
 
@@ -68,8 +68,8 @@ def let_in(book, wrong, situations, further):
     check_run_wrong(wrong)
     states, rows = book
     check_rows(states, rows, further)
-    graph = Graph((states, further), "late")
-    inside = {graph.code_of(situation): True for situation in situations}
+    graph = graph_of((states, further), "late")
+    inside = {graph.frame.code_of(situation): True for situation in situations}
     barred = {}
     for code in inside:
         for move, target in graph.moves_at(code):
@@ -94,7 +94,7 @@ def check_run_wrong(wrong):
 
 def wrong_verdict(graph, wrong):
     """Return the Verdict about a wrong of a step."""
-    walk, code = walk_to_wrong(graph, wrong)
+    walk, code = walk_to_wrong(graph, (wrong,))
     if code is None:
         return Verdict(True)
     path = path_along(graph, walk.codes_to(code)) + [step_to_wrong(graph, code, wrong)]
