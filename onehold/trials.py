@@ -15,7 +15,7 @@ class Trial:
 
     def __init__(self, frame, wrongs, changes):
         self.frame = frame
-        self.wrongs = wrongs
+        self.unwanted = wrongs
         self.changes = changes
         self.ends = {}
         for at, (place, bit) in enumerate(changes):
@@ -41,7 +41,7 @@ class Trial:
             place, bit = self.changes[at]
             masks[place] = masks[place] | bit
         graph = Graph(self.frame, "late", masks)
-        hops = hops_to_wrong(graph, self.wrongs)
+        hops = hops_to_wrong(graph, self.unwanted)
         if hops is None:
             return None
         breaking = {at: True for code, moves in hops for at in self.least_breaking(graph, code, moves)}

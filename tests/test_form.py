@@ -23,7 +23,17 @@ INTERFACE = {
                  "is_table(book, wrong, rows, steps, *, world='late')", "let_in(book, wrong, situations, further)"],
     "runs": ["events_of(book, path)", "course(book, events)", "to_pages(book, events)", "to_letters(book, events)",
              "to_answers(book, events)", "to_two(book, events)", "fewest_visitors(book, wrong)"],
+    "pages": ["prompt_verdict(book, wrong, pages)", "fewest_pages(book, wrong)", "page_table(book, pages)",
+              "is_page_table(book, wrong, pages, rows, steps)"],
+    "mends": ["gentle_looks(book)", "least_looks(book, wrongs, *, most=2)", "fewest_rows(book, wrongs)",
+              "needless_looks(book, wrongs)"],
+    "compared": ["serial(book)", "stand_in(book, situation, step)", "difference(first, second)",
+                 "never_more(first, second)", "idle_looks(book)", "buttons(book)"],
+    "objects": ["Book(states, *rows)"],
 }
+BOOK_METHODS = ["with_look(self, name, look)", "without_look(self, name, look)", "differs(self, other)",
+                "__call__(self, wrong, world='late')"]
+BOOK_SIGNS = ["__len__", "__getitem__", "__contains__", "__str__", "__eq__", "__ne__", "__add__", "__sub__", "__iter__"]
 METHODS = [
     "open_page(self, visitor)", "close_page(self, page)", "old_answer(self, page, *words)", "refresh(self, page)",
     "press(self, page, name, *seats)", "comes(self, letter, length=1)", "hear(self, letter)", "lose(self, letter)",
@@ -77,6 +87,16 @@ class Interface(unittest.TestCase):
         for signature in METHODS:
             self.assertIn(signature, found)
         self.assertIsInstance(vars(house)["now"], property)
+
+    def test_methods_of_book(self):
+        book = importlib.import_module("onehold.objects").Book
+        found = [name + str(inspect.signature(thing)) for name, thing in vars(book).items() if inspect.isfunction(thing)]
+        for signature in BOOK_METHODS:
+            self.assertIn(signature, found)
+        for name in BOOK_SIGNS:
+            self.assertIn(name, vars(book))
+        self.assertIsInstance(vars(book)["read"], staticmethod)
+        self.assertEqual(str(inspect.signature(book.read)), "(text)")
 
     def test_the_truth_of_a_verdict_is_its_own(self):
         self.assertIn("__bool__", vars(importlib.import_module("onehold.verdicts").Verdict))
