@@ -103,3 +103,67 @@ def busy_book(rng, most_states=3, most_rows=6):
         rows.append((name, shown, tuple(rng.sample(looks, rng.choice([0, 1, 1, 2]))), deed,
                      tuple(rng.sample(marks, rng.choice([0, 0, 1])))))
     return (states, tuple(rows))
+
+
+def small_book(rng):
+    """A book of two states and up to five rows, whose runs reach much, with many rows that ask for "same"."""
+    states, rows = busy_book(rng, 2, 5)
+    views = ["free"] + [f"{whose} {word}" for word, _, _ in states for whose in ("my", "others")]
+    changed = []
+    for name, shown, looks, deed, marks in rows:
+        if shown and name != "hold" and rng.random() < 0.5:
+            shown = tuple(rng.sample(views, rng.choice([1, 1, 2])))
+            looks = looks + ("same",) * ("same" not in looks and "still" not in looks)
+        if deed != "free" and rng.random() < 0.1 and "new" not in marks:
+            marks = marks + ("new",)
+        if shown and rng.random() < 0.2 and "keep" not in marks:
+            marks = marks + ("keep",)
+        changed.append((name, shown, looks, deed, marks))
+    return (states, tuple(changed))
+
+
+def deep_book(rng):
+    """A book of two states and up to five rows, most of which need an earlier view or a payment, or make one."""
+    kinds = [(False, False), (True, False), (False, True)]
+    states = tuple((word, *rng.choice(kinds)) for word in ("held", "sold"))
+    rows = [("hold", ("free",), ("at free",), rng.choice(["take held", "take sold"]), ())]
+    for name in "abcd"[:rng.randint(2, 4)]:
+        sweep = rng.random() < 0.1
+        shown = () if sweep else tuple(rng.sample(["free", "my held", "my sold", "others held"], rng.choice([1, 1, 1, 2])))
+        looks = ("same",) * (not sweep and rng.random() < 0.85)
+        if rng.random() < 0.6:
+            looks += (rng.choice(["at held", "at sold", "not held", "at free", "unpaid", "paid", "running", "over"]),)
+        deed = rng.choice(["free", "time", "move held", "move sold"] + ["", "take held", "take sold"] * (not sweep))
+        marks = rng.choice([(), ("refund",)] + [("keep",), ("keep",), ("refund", "keep")] * (not sweep))
+        rows.append((name, shown, looks, deed, marks if deed or marks else ("keep",)))
+    return (states, tuple(rows))
+
+
+def changed_book(rng, book):
+    """A book with the states of the book, and rows that are a little unlike."""
+    states, rows = book
+    rows = [list(row) for row in rows]
+    for _ in range(rng.choice([1, 1, 2])):
+        row = rng.choice(rows)
+        looks = [look for look in looks_for((states, ())) if look not in row[2]
+                 and (row[1] or look not in ("mine", "other", "same", "still"))]
+        kind = rng.random()
+        if kind < 0.3:
+            row[2] = row[2] + (rng.choice(looks),)
+        elif kind < 0.5:
+            row[2] = row[2][1:]
+        elif kind < 0.7:
+            mark = rng.choice(["new", "refund"] + ["keep"] * len(row[1]))
+            row[4] = tuple(other for other in row[4] if other != mark) if mark in row[4] else row[4] + (mark,)
+        elif kind < 0.85:
+            row[3] = rng.choice(["time", "free"] + [verb + word for word, _, _ in states for verb in ("take ", "move ")])
+        elif kind < 0.9 and row[1]:
+            row[1] = row[1][::-1] + tuple(word for word in ["my " + states[0][0]] if word not in row[1])
+        else:
+            rng.shuffle(rows)
+    other = (tuple(rng.sample(states, len(states))), tuple(tuple(row) for row in rows))
+    try:
+        looks_for(other)
+    except ValueError:
+        return changed_book(rng, book)
+    return other

@@ -1,4 +1,4 @@
-"""The examples of the points up to [24], word by word as the document shows them."""
+"""The examples of the points, word by word as the document shows them."""
 
 import doctest
 import unittest
@@ -79,6 +79,55 @@ RUNS = r'''
 ((9, ('sold', 4, 1, 2, None, (4,), False)), True)
 '''
 
+PAGES = r'''
+>>> from onehold.books import read_book
+>>> from onehold.pages import fewest_pages
+>>> text = "states: held timed, sold sold\nhold: free ? at free ! take held\n"
+>>> book = read_book(text + "pay: my held ? same ! take sold, keep\n")
+>>> other = read_book(text + "pay: my held ? mine ! take sold, keep\n")
+>>> (fewest_pages(book, "twice"), fewest_pages(other, "twice"), fewest_pages(book, "taken"))
+(2, 1, None)
+'''
+
+MENDS = r'''
+>>> from onehold.books import read_book
+>>> from onehold.mends import fewest_rows, least_looks
+>>> text = "states: held timed, sold sold\nhold: free ? at free ! take held\n"
+>>> book = read_book(text + "pay: my held ? mine ! take sold, keep\n")
+>>> (least_looks(book, ("twice",)), fewest_rows(book, ("twice", "taken")), least_looks(book, ("nobody",)))
+((('pay', 'at held'),), ('pay',), None)
+'''
+
+NEEDLESS = r'''
+>>> from onehold.books import read_book
+>>> from onehold.mends import needless_looks
+>>> text = "states: held timed, sold sold\nhold: free ? at free ! take held\n"
+>>> text = text + "again: others held ? at held, other, over ! take held\n"
+>>> book = read_book(text + "pay: my held ? mine, at held ! take sold, keep\n")
+>>> needless_looks(book, ("twice", "astray", "unpaid", "taken", "nobody"))
+[('again', 'other'), ('again', 'at held')]
+'''
+
+COMPARED = r'''
+>>> from onehold.books import read_book
+>>> from onehold.compared import difference, idle_looks, serial
+>>> text = "states: held timed, sold sold\nhold: free ? at free ! take held\n"
+>>> text = text + "again: others held ? at held, other, over ! take held\n"
+>>> first = read_book(text + "pay: my held ? mine, at held ! take sold, keep\n")
+>>> second = read_book(text + "pay: my held ? still ! take sold, keep\n")
+>>> third = read_book(text + "pay: my held ? mine ! take sold, keep\n")
+>>> (idle_looks(first), difference(first, second).steps, serial(first).safe, serial(third).steps)
+([('again', 'at held')], 1, True, 3)
+'''
+
+OBJECTS = r'''
+>>> from onehold.objects import Book
+>>> book = Book.read("states: held timed, sold sold\nhold: free ? at free ! take held\n")
+>>> more = book + ("pay", ("my held",), ("mine",), "take sold", ("keep",))
+>>> (len(more), "pay" in more, more - "pay" == book, bool(more("twice")), bool(more.with_look("pay", "still")("twice")))
+(2, True, True, False, True)
+'''
+
 
 class Examples(unittest.TestCase):
 
@@ -113,6 +162,21 @@ class Examples(unittest.TestCase):
 
     def test_point_24(self):
         self.check(RUNS, 6)
+
+    def test_point_26(self):
+        self.check(PAGES, 6)
+
+    def test_point_29_mends(self):
+        self.check(MENDS, 5)
+
+    def test_point_29_needless(self):
+        self.check(NEEDLESS, 6)
+
+    def test_point_32(self):
+        self.check(COMPARED, 8)
+
+    def test_point_33(self):
+        self.check(OBJECTS, 4)
 
 
 if __name__ == "__main__":
