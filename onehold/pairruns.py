@@ -1,8 +1,9 @@
 """Runs of pairs of houses: the shortest way to a difference, and the events that bring it about."""
 
 from onehold.books import view_word
-from onehold.pairs import ENDS, KINDS, LEVELS, NUMBERS, levels_at, views_at
+from onehold.pairs import ENDS, LEVELS, levels_at, views_at
 from onehold.roads import OLD_TURN, Letter, PageRoad, travelled
+from onehold.situations import SENDERS
 
 # So long is each tick: longer than the shortest time.
 TICK = 2
@@ -72,7 +73,7 @@ def walk_to_unlike(pair, kinds):
 class PairRun:
     """Where a run of two houses is, and its deeds so far.
 
-    senders has the visitors who are owner, another outsider, payer. seen has, for the
+    senders has the visitors who are owner, outsider, and payer. seen has, for the
     states that views of the present number show, the last of their turns: those of
     both houses, of the first one alone, of the second one alone. starts has the moment
     of each deed, setters the deed that set the time of each house, ends the moment up
@@ -110,7 +111,7 @@ class PairRun:
             self.note(("sweep", name, 0, 1))
         else:
             word, turn = view_for(self, code, couple, role, wanted)
-            self.note(Letter(self.senders[NUMBERS[role]], name, 1, word, turn))
+            self.note(Letter(self.senders[SENDERS[role]], name, 1, word, turn))
 
     def go_along(self, code, move):
         """Note what the move, which was done last, has changed."""
@@ -151,7 +152,7 @@ def view_for(run, code, couple, role, wanted):
     spot = run.pair.spot_at(code)
     past = code & (run.pair.width - 1)
     is_owner = role == "owner"
-    levels = levels_at(run.pair, spot, couple, KINDS[role])
+    levels = levels_at(run.pair, spot, couple, role)
     views = views_at(run.pair, spot, couple, role, True)
     still, *same, old = [
         past & need and (levels[0] >= least[0], levels[1] >= least[1]) == wanted for need, least in zip(views, LEVELS)

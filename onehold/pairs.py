@@ -11,13 +11,11 @@ for each state that was there at turns of the present number of one house alone.
 from onehold.books import FREE, is_sweep
 from onehold.frames import Frame, level_of
 from onehold.seats import clock_at, done_record, is_shut, sets_until
-from onehold.situations import NEW_END, NOW, UNTILS
+from onehold.situations import NEW_END, NOW, OWNER, SENDERS, UNTILS
 
 RUNNING = "running"
 OVER = "over"
-# The payer whose payment is kept is an outsider, but not just any.
-KINDS = {"owner": "owner", "outsider": "outsider", "payer": "outsider", "house": "house"}
-NUMBERS = {"owner": 0, "outsider": 1, "payer": 2, "house": None}
+# An outsider who has paid is not the one who sends: any other one does as well, and makes more differences.
 PAYERS = {"": (), "owner": (0,), "outsider": (2,)}
 # The views by which letters are sent: of the present turn; of the present number in both
 # houses, in the first one alone, in the second one alone; older ones. For each, the
@@ -57,10 +55,9 @@ class PairSpot:
     behind the steps of the clock.
     """
 
-    def __init__(self, parts, owned, base, spots):
+    def __init__(self, parts, owned, spots):
         self.parts = parts
         self.owned = owned
-        self.base = base
         self.spots = spots
         self.moves = None
         self.unlike = []
@@ -72,7 +69,7 @@ class PairMove:
 
     behind is the base of the next spot, None if the seats are shut. rises and sets tell
     for each house whether the number rises and whether a new time is set. who and payer
-    are numbers of senders, or None.
+    are numbers as in SENDERS and PAYERS, or None.
     """
 
     def __init__(self, couple, role, behind, rises, sets, who, payer):
@@ -103,7 +100,7 @@ class Pair:
         key = (parts, owned)
         if key not in self.bases:
             self.bases[key] = len(self.spots) * self.width
-            self.spots.append(PairSpot(parts, owned, self.bases[key], self.spots_for(parts, owned)))
+            self.spots.append(PairSpot(parts, owned, self.spots_for(parts, owned)))
         return self.bases[key]
 
     def spots_for(self, parts, owned):
@@ -163,11 +160,9 @@ def sights_for(frame, row, shown):
 def look_at_pair(pair, spot):
     """Find what the couples, and the clock, do at the spot."""
     spot.moves = []
-    roles = ["house", "outsider"] + (["owner"] if spot.owned else [])
-    roles = roles + (["payer"] if spot.parts[3] == "outsider" else [])
     for couple in pair.couples:
-        for role in roles:
-            if KINDS[role] in couple.sights:
+        for role in couple.sights:
+            if spot.owned or role != "owner":
                 add_couple(pair, spot, couple, role)
     state, clocks, tied, payer = spot.parts
     for ends in ends_of(clocks, tied):
@@ -184,7 +179,7 @@ def ends_of(clocks, tied):
 
 def add_couple(pair, spot, couple, role):
     """Put what the couple does at the spot, and where it makes a difference, into the spot."""
-    levels = levels_at(pair, spot, couple, KINDS[role])
+    levels = levels_at(pair, spot, couple, role)
     if levels == (0, 0):
         return
     both, first, second = needs_of(views_at(pair, spot, couple, role, True), levels)
@@ -214,7 +209,7 @@ def views_at(pair, spot, couple, role, sent):
     if role == "house":
         return (1, 0, 0, 0, 0) if sent else (0, 0, 0, 0, 0)
     sights = couple.sights if sent else couple.lone_sights
-    sight = sights[KINDS[role]]
+    sight = sights[role]
     still = 1 if sight & pair.bits[spot.parts[0]] else 0
     old = 1 if (couple.words if sent else couple.lone) else 0
     return (still, sight, sight << pair.shift, sight << (2 * pair.shift), old)
@@ -234,10 +229,10 @@ def needs_of(views, levels):
 def joint_move(pair, spot, couple, role):
     """Return what the couple does in both houses, None if state, who or kept are unlike behind it."""
     state, clocks, tied, payer = spot.parts
-    who = None if state == FREE else NUMBERS["owner"]
+    who = None if state == FREE else OWNER
     kinds = pair.frames[0].kinds
     ahead = [(state, who, 1, 1, UNTILS[clock], PAYERS[payer], False) for clock in clocks]
-    behind = [done_record(kinds, row, record, NUMBERS[role], NEW_END) for row, record in zip(couple.rows, ahead)]
+    behind = [done_record(kinds, row, record, SENDERS[role], NEW_END) for row, record in zip(couple.rows, ahead)]
     if seen_part(behind[0]) != seen_part(behind[1]):
         return None
     rises = tuple([new[2] != old[2] for new, old in zip(behind, ahead)])
@@ -247,7 +242,7 @@ def joint_move(pair, spot, couple, role):
     if is_shut(behind[0]):
         return PairMove(couple, role, None, rises, sets, who, None)
     owned = spot.owned or who is not None
-    owner = NUMBERS["owner"] if who is None else who
+    owner = OWNER if who is None else who
     ends = tuple([clock_at(record, NOW) for record in behind])
     payer = ("owner" if owned and kept[0] == owner else "outsider") if kept else ""
     parts = (behind[0][0], ends, are_tied(ends, sets, tied), payer)

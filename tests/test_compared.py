@@ -211,6 +211,10 @@ class Differences(unittest.TestCase):
         self.check(first, second, 2)
         told = difference(first, second)
         self.assertEqual(len({event[1] for event in told.events if event[0] == "open"}), 3)
+        # The owner pays instead of the stranger.
+        first = book_of(HOLD, paid, "b: my held ? mine, paid ! refund, keep\n", states=PLAIN)
+        second = book_of(HOLD, paid, "b: my held ? mine, paid ! move held\n", states=PLAIN)
+        self.check(first, second, 2)
 
     def test_sweeps(self):
         self.check(book_of(HOLD, "lapse: ? over ! free\n"), book_of(HOLD, "lapse: ? at held ! free\n"), 1)
@@ -221,6 +225,8 @@ class Differences(unittest.TestCase):
 
     def test_numbers_that_are_unlike(self):
         """"new" in one book alone shows where another row asks for "same"."""
+        rows = (HOLD, "a: my held ? mine ! time\n", "b: my held ? same ! move sold\n")
+        self.check(book_of(*rows), book_of(HOLD, "a: my held ? mine ! time, new\n", "b: my held ? still ! move sold\n"), 2)
         for row, steps in (("b: my held ? same ! move sold\n", 2), ("b: my held ? still ! move sold\n", None),
                            ("b: my held ? same ! new\n", 2), ("b: others held ? same ! move sold\n", 2)):
             self.check(book_of(HOLD, "a: my held ? mine ! time\n", row),
@@ -228,6 +234,25 @@ class Differences(unittest.TestCase):
         # The number of the second house rises later: views of the time between are the same there no more.
         self.check(book_of(HOLD, "a: ? at held ! move sold, new\n", "b: ? at sold ! move held\n", "c: my sold ? same, at held ! free\n"),
                    book_of(HOLD, "a: ? at held ! move sold\n", "b: ? at sold ! move held, new\n", "c: my sold ? same, at held ! free\n"), 3)
+
+    def test_numbers_that_rise_more_than_once(self):
+        """b is done ahead of a, and behind c: then its view is of the present number in the first house alone."""
+        rows = (HOLD, "u: my held ? mine, at held ! move sold\n", "b: my held ? same, at sold, unpaid ! free\n")
+        pay, back = "a: my sold ? mine, at sold, unpaid ! keep{}\n", "c: my sold ? mine, at sold, paid ! refund{}\n"
+        plain = book_of(*rows, pay.format(""), back.format(""), states=PLAIN)
+        self.check(plain, book_of(*rows, pay.format(", new"), back.format(", new"), states=PLAIN), 4)
+        self.check(plain, book_of(*rows, pay.format(", new"), back.format(""), states=PLAIN), 4)
+        self.check(plain, book_of(*rows, pay.format(""), back.format(", new"), states=PLAIN), 4)
+        both = book_of(*rows, pay.format(", new"), back.format(", new"), states=PLAIN)
+        self.check(both, book_of(*rows, pay.format(", new"), back.format(""), states=PLAIN), None)
+        # Each number has risen once: what was seen ahead of both is of neither, what was seen between them is of one.
+        for row, steps in (("b: my held ? same, at sold, unpaid ! free\n", None), ("b: my sold ? same, at held ! free\n", 4)):
+            back = "c: my sold ? mine, at sold, paid ! refund{}\n"
+            if steps:
+                back = "c: my sold ? mine, at sold, paid ! move held{}, refund\n".replace("{}, refund", ", refund{}")
+            rows = (HOLD, "u: my held ? mine, at held ! move sold\n", row)
+            self.check(book_of(*rows, pay.format(", new"), back.format(""), states=PLAIN),
+                       book_of(*rows, pay.format(""), back.format(", new"), states=PLAIN), steps)
 
     def test_times_that_are_unlike(self):
         longer = "a: my held ? at held ! time\n"
@@ -241,8 +266,8 @@ class Differences(unittest.TestCase):
         self.check(book_of(HOLD, "a: my held ? mine, unpaid ! time, keep\n", *rows),
                    book_of(HOLD, "a: my held ? mine, unpaid ! keep\n", *rows), None)
         rows = ("b: others held ? other, at held ! refund\n", "c: ? over, unpaid ! free\n")
-        self.check(book_of(HOLD, "a: my held ? mine, unpaid ! time, keep\n", *rows),
-                   book_of(HOLD, "a: my held ? mine, unpaid ! keep\n", *rows), 3)
+        self.check(book_of(HOLD, "a: my held ? mine, unpaid, running ! time, keep\n", *rows),
+                   book_of(HOLD, "a: my held ? mine, unpaid, running ! keep\n", *rows), 3)
 
     def test_shut_seats_are_alike(self):
         first = book_of("buy: free ? ! take sold, keep\n", "b: my sold ? paid ! keep\n", "c: my held ? paid, at free ! free\n")
@@ -333,6 +358,13 @@ class Idle(unittest.TestCase):
         self.assertEqual(idle_looks(book), [("a", "at sold"), ("a", "paid")])
         book = book_of(HOLD, "a: my sold ? at sold ! free\n")
         self.assertEqual(idle_looks(book), [])
+
+    def test_situations_that_late_letters_reach_count(self):
+        """Nobody comes to a seat that is sold, but by an old answer that shows "my sold"."""
+        book = book_of(HOLD, "up: my sold ? at held ! move sold\n", "a: my held ? at held ! free\n")
+        self.assertEqual(idle_looks(book), [])
+        book = book_of(HOLD, "a: my held ? at held ! free\n")
+        self.assertEqual(idle_looks(book), [("a", "at held")])
 
     def test_sweeps(self):
         book = book_of(HOLD, "lapse: ? at held, not sold, over ! free\n")

@@ -101,6 +101,13 @@ class Prompt(unittest.TestCase):
         self.check(book, "twice", 1, 5)
         self.assertEqual(fewest_pages(book, "twice"), 1)
 
+    def test_the_page_that_is_needed(self):
+        """At the last step pages may still show "my held" as well, but only one that shows "my sold" is of use."""
+        book = book_of("hold: free ? at free, unpaid ! take held\n", MOVE, "b: my held ? same, at sold, unpaid ! keep\n",
+                       "f: my sold ? still, paid ! free\n", "d: my sold ? same, at free ! keep\n", states=PLAIN)
+        for pages, steps in ((1, None), (2, 5), (3, 5)):
+            self.check(book, "twice", pages, steps)
+
     def test_a_number_that_rises(self):
         """What was kept is worth nothing behind "new"."""
         book = book_of(HOLD, "a: my held ? still ! move sold, new\n", "b: my held ? same, at sold ! keep\n", states=PLAIN)
