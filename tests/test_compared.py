@@ -49,6 +49,11 @@ def differences(first, second, events):
     return found
 
 
+def swapped(text):
+    """The text with the words "held" and "sold" in each other's places."""
+    return text.replace("held", "x").replace("sold", "held").replace("x", "sold")
+
+
 class Serial(unittest.TestCase):
     """Point [30]."""
 
@@ -237,22 +242,33 @@ class Differences(unittest.TestCase):
 
     def test_numbers_that_rise_more_than_once(self):
         """b is done ahead of a, and behind c: then its view is of the present number in the first house alone."""
-        rows = (HOLD, "u: my held ? mine, at held ! move sold\n", "b: my held ? same, at sold, unpaid ! free\n")
-        pay, back = "a: my sold ? mine, at sold, unpaid ! keep{}\n", "c: my sold ? mine, at sold, paid ! refund{}\n"
-        plain = book_of(*rows, pay.format(""), back.format(""), states=PLAIN)
-        self.check(plain, book_of(*rows, pay.format(", new"), back.format(", new"), states=PLAIN), 4)
-        self.check(plain, book_of(*rows, pay.format(", new"), back.format(""), states=PLAIN), 4)
-        self.check(plain, book_of(*rows, pay.format(""), back.format(", new"), states=PLAIN), 4)
-        both = book_of(*rows, pay.format(", new"), back.format(", new"), states=PLAIN)
-        self.check(both, book_of(*rows, pay.format(", new"), back.format(""), states=PLAIN), None)
-        # Each number has risen once: what was seen ahead of both is of neither, what was seen between them is of one.
-        for row, steps in (("b: my held ? same, at sold, unpaid ! free\n", None), ("b: my sold ? same, at held ! free\n", 4)):
-            back = "c: my sold ? mine, at sold, paid ! refund{}\n"
-            if steps:
-                back = "c: my sold ? mine, at sold, paid ! move held{}, refund\n".replace("{}, refund", ", refund{}")
-            rows = (HOLD, "u: my held ? mine, at held ! move sold\n", row)
-            self.check(book_of(*rows, pay.format(", new"), back.format(""), states=PLAIN),
-                       book_of(*rows, pay.format(""), back.format(", new"), states=PLAIN), steps)
+        rows = "u: my held ? mine, at held ! move sold\nb: my held ? same, at sold, unpaid ! free\n"
+        text = HOLD + rows + "a: my sold ? mine, at sold, unpaid ! keep{}\nc: my sold ? mine, at sold, paid ! refund{}\n"
+        for each in (text, swapped(text)):
+            books = {(one, other): book_of(each.format(one, other), states=PLAIN)
+                     for one in ("", ", new") for other in ("", ", new")}
+            self.check(books["", ""], books[", new", ", new"], 4)
+            self.check(books["", ""], books[", new", ""], 4)
+            self.check(books["", ""], books["", ", new"], 4)
+            self.check(books[", new", ", new"], books[", new", ""], None)
+            # Each number has risen once: what was seen ahead of both is of neither.
+            self.check(books[", new", ""], books["", ", new"], None)
+
+    def test_views_between_two_rises(self):
+        """What was seen between a and c is of one number; what was seen ahead of both is of neither, till c comes again."""
+        rows = "u: my held ? mine, at held ! move sold\nb: my {} ? same, at held, paid ! free\n"
+        text = HOLD + rows + "a: my sold ? mine, at sold, unpaid ! keep{}\nc: my sold ? mine, at sold, paid ! move held{}\n"
+        for each in (text, swapped(text)):
+            words = ("held", "sold") if each == text else ("sold", "held")
+            for word, steps in zip(words, (6, 4)):
+                self.check(book_of(each.format(word, "", ", new"), states=PLAIN),
+                           book_of(each.format(word, ", new", ""), states=PLAIN), steps)
+
+    def test_views_of_earlier_turns_ahead_of_a_rise(self):
+        text = HOLD + "u: my held ? mine, at held ! move sold\nb: my held ? same, at sold, paid ! free\n"
+        text += "a: my sold ? mine, at sold, unpaid ! keep{}\n"
+        for each in (text, swapped(text)):
+            self.check(book_of(each.format(""), states=PLAIN), book_of(each.format(", new"), states=PLAIN), 3)
 
     def test_times_that_are_unlike(self):
         longer = "a: my held ? at held ! time\n"
