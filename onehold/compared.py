@@ -159,9 +159,9 @@ def places_of(walk):
 def offers_of(frame, places, place, mask):
     """Return the list of the offers of the row at this place, if it has the mask, at the places."""
     return [
-        Offer(role, level_of(spot, role, mask) if place in spot.able else 0, frame.views.get(role, {}), spot.bit, past)
+        Offer(role, level_of(spot, role, mask) if place in spot.able else 0, frame.views_for(role), spot.bit, past)
         for spot, past in places
-        for role in frame.sights[place]
+        for role in frame.roles[place]
         if role in roles_at(spot, False)
     ]
 
@@ -170,7 +170,7 @@ def does_more(frame, places, place, bit):
     """Tell whether the row at this place is done by further letters, or sweeps, if it has not the look."""
     mask = frame.masks[place]
     pairs = zip(offers_of(frame, places, place, mask), offers_of(frame, places, place, mask & ~bit))
-    return any([has_view(frame.sights[place][more.role], fewer.level, more) for fewer, more in pairs])
+    return any([has_view(frame.sight_of(place, more.role), fewer.level, more) for fewer, more in pairs])
 
 
 def has_view(sight, level, offer):

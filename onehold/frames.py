@@ -20,6 +20,8 @@ OTHER = 2
 SAME = 4
 STILL = 8
 SENDER_BITS = {"mine": 1, "other": 2, "same": 4, "still": 8}
+SWEEP_ROLES = ("house",)
+LETTER_ROLES = ("owner", "outsider")
 # All bits: a sweep needs no view.
 ANY_SIGHT = -1
 
@@ -67,8 +69,8 @@ class Move:
 class Frame:
     """The spots of a book that is checked; they are added as they are met.
 
-    looks has the bits of the looks of the rows, and of further looks. sights has, for
-    each row and each role that may send it, the bits of the states in whose sight.
+    looks has the bits of the looks of the rows, and of further looks. roles has for each
+    row those that send it. views and sights have what views_for and sight_of have told.
     """
 
     def __init__(self, book, further=()):
@@ -79,24 +81,33 @@ class Frame:
         self.bits = {word: 2 << place for place, word in enumerate(self.words)}
         self.width = 2 << len(self.words)
         self.looks = dict(SENDER_BITS)
-        for looks in [*[row[2] for row in rows], further]:
-            for look in looks:
-                if look not in self.looks:
-                    self.looks[look] = 1 << len(self.looks)
+        for group in [*[row[2] for row in rows], further]:
+            for part in group:
+                if part not in self.looks:
+                    self.looks[part] = 1 << len(self.looks)
         self.seat_looks = [look for look in self.looks if look not in SENDER_BITS]
         self.masks = [sum([self.looks[look] for look in row[2]]) for row in rows]
-        self.views = {role: {view_word(word, role == "owner"): self.bits[word] for word in self.words}
-                      for role in ("owner", "outsider")}
-        self.sights = [self.sights_of(row) for row in rows]
+        self.roles = [SWEEP_ROLES if is_sweep(row) else LETTER_ROLES for row in rows]
+        self.views = {}
+        self.sights = {}
         self.spots = []
         self.bases = {}
-        self.first = self.code_of(FIRST_SITUATION)
+        self.first = self.base_of(FIRST_SITUATION[:3], False) + 1
 
-    def sights_of(self, row):
-        """Return the dict of the bits of the row for each role."""
-        if is_sweep(row):
-            return {"house": ANY_SIGHT}
-        return {role: sum([bits.get(word, 0) for word in row[1]]) for role, bits in self.views.items()}
+    def views_for(self, role):
+        """Return the dict of the bits of the states, by the words by which the role sees them."""
+        if role not in self.views:
+            self.views[role] = {view_word(word, role == "owner"): bit for word, bit in self.bits.items()}
+        return self.views[role]
+
+    def sight_of(self, place, role):
+        """Return the bits of the states in whose sight the role sends the row at this place."""
+        key = (place, role)
+        if key not in self.sights:
+            views = self.views_for(role)
+            shown = self.rows[place][1]
+            self.sights[key] = sum([views.get(word, 0) for word in shown]) if shown else ANY_SIGHT
+        return self.sights[key]
 
     def base_of(self, parts, owned):
         """Return the base of the spot with these parts."""

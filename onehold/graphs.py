@@ -10,6 +10,7 @@ from onehold.situations import CLOCK_STEP, steps_of
 # The bits of "same" and "still".
 VIEW_LOOKS = 12
 
+
 class Node:
     """What can be done at a spot: moves has (need, move).
 
@@ -88,9 +89,9 @@ def node_of(graph, spot):
     frame = graph.frame
     for place in spot.able:
         mask = graph.masks[place]
-        for role, sight in frame.sights[place].items():
+        for role in frame.roles[place]:
             if role in roles and not mask & spot.barred[role]:
-                need = need_of(mask, sight, spot.bit)
+                need = need_of(frame, spot, mask, place, role)
                 if need:
                     add_move(node, need, move_at(frame, spot, place, role))
     return node
@@ -103,18 +104,19 @@ def roles_at(spot, alone):
     return ("owner", "house") if alone else ("owner", "outsider", "house")
 
 
-def need_of(mask, sight, bit):
-    """Return the bits of which a past has one where a row with this mask is done if it is sent in this sight."""
-    if sight & bit or not mask & VIEW_LOOKS:
+def need_of(frame, spot, mask, place, role):
+    """Return the bits of which a past has one where the role can send the row, as far as the view is asked for."""
+    if not mask & VIEW_LOOKS:
+        return 1
+    sight = frame.sight_of(place, role)
+    if sight & spot.bit:
         return 1
     return 0 if mask & STILL else sight
 
 
 def need_under(frame, spot, mask, place, role):
     """Return the bits of which a past has one where the role can send the row, if it has this mask, at the spot."""
-    if mask & spot.barred[role]:
-        return 0
-    return need_of(mask, frame.sights[place][role], spot.bit)
+    return 0 if mask & spot.barred[role] else need_of(frame, spot, mask, place, role)
 
 
 def add_move(node, need, move):

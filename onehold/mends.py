@@ -80,7 +80,7 @@ def gentle_places(frame, looks):
     harsh = list(frame.masks)
     for node in walked(Graph(frame, "late", frame.masks)).graph.nodes.values():
         for _, move in node.moves:
-            if frame.sights[move.place][move.role] & node.bit:
+            if frame.sight_of(move.place, move.role) & node.bit:
                 harsh[move.place] = harsh[move.place] | node.spot.barred[move.role]
     return [
         (place, look)
@@ -105,12 +105,13 @@ def comes_in(walk, wrong):
 
 def walk_without(walk, place, bit, wrongs):
     """Return the walk through the book without the look, None if one of the wrongs can come then."""
-    masks = list(walk.graph.masks)
+    old = walk.graph
+    masks = list(old.masks)
     masks[place] = masks[place] & ~bit
-    graph = Graph(walk.graph.frame, "late", masks)
+    graph = Graph(old.frame, "late", masks)
     if not is_wider(walk, graph, place):
         # The walk goes through the same moves, but the next look is taken out of these masks.
-        walk.graph.masks = masks
+        old.masks = masks
         return walk
     other, code = walk_to_wrong(graph, wrongs)
     if code is not None or (NOBODY in wrongs and greatest_sets(graph, list(other.least))):
@@ -121,12 +122,13 @@ def walk_without(walk, place, bit, wrongs):
 def is_wider(walk, graph, place):
     """Tell whether the row at this place may do more in the graph at a spot of the walk."""
     frame = graph.frame
+    old, new = walk.graph.masks[place], graph.masks[place]
     for node in walk.graph.nodes.values():
         spot = node.spot
         if place in spot.able:
-            for role in frame.sights[place]:
-                masks = (walk.graph.masks[place], graph.masks[place])
-                needs = [need_under(frame, spot, mask, place, role) for mask in masks]
-                if role in roles_at(spot, False) and needs[0] != needs[1]:
-                    return True
+            for role in frame.roles[place]:
+                if role in roles_at(spot, False):
+                    need = need_under(frame, spot, old, place, role)
+                    if need_under(frame, spot, new, place, role) != need:
+                        return True
     return False

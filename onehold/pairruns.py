@@ -32,7 +32,8 @@ class PairWalk:
         self.steps += 1
         for code in ahead:
             past = code & (self.pair.width - 1)
-            for need, move in self.pair.spot_at(code).moves:
+            moves = list(self.pair.spot_at(code).moves)
+            for need, move in moves:
                 if past & need and move.behind is not None:
                     self.enter(move.behind + self.pair.past_behind(code, move.rises), (code, move))
 
@@ -43,7 +44,8 @@ class PairWalk:
         self.sources[code] = source
         self.level.append(code)
         past = code & (self.pair.width - 1)
-        for base in self.pair.spot_at(code).overs:
+        overs = list(self.pair.spot_at(code).overs)
+        for base in overs:
             self.enter(base + past, (code, None))
 
     def ways_to(self, code):

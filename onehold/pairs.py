@@ -9,7 +9,7 @@ for each state that was there at turns of the present number of one house alone.
 """
 
 from onehold.books import FREE, is_sweep
-from onehold.frames import Frame, level_of
+from onehold.frames import LETTER_ROLES, Frame, level_of
 from onehold.seats import clock_at, done_record, is_shut, sets_until
 from onehold.situations import NEW_END, NOW, OWNER, SENDERS, UNTILS
 
@@ -154,7 +154,7 @@ def sights_for(frame, row, shown):
     """Return the dict of the bits of the states in whose sight the roles send the row: those of these words."""
     if is_sweep(row):
         return {"house": 0}
-    return {role: sum([bits.get(word, 0) for word in shown]) for role, bits in frame.views.items()}
+    return {role: sum([frame.views_for(role).get(word, 0) for word in shown]) for role in LETTER_ROLES}
 
 
 def look_at_pair(pair, spot):
