@@ -19,24 +19,42 @@ COMMON_LOOKS = {
     "paid": True,
 }
 MARKS = ("new", "refund", "keep")
-# The tuples of marks, none twice, in all orders.
-MARK_ORDERS = {
-    (): True,
-    ("new",): True,
-    ("refund",): True,
-    ("keep",): True,
-    ("new", "refund"): True,
-    ("refund", "new"): True,
-    ("new", "keep"): True,
-    ("keep", "new"): True,
-    ("refund", "keep"): True,
-    ("keep", "refund"): True,
-    ("new", "refund", "keep"): True,
-    ("new", "keep", "refund"): True,
-    ("refund", "new", "keep"): True,
-    ("refund", "keep", "new"): True,
-    ("keep", "new", "refund"): True,
-    ("keep", "refund", "new"): True,
+# The tuples of marks, none twice, in all orders, with their texts behind a deed; and the other way round.
+MARK_TEXTS = {
+    (): "",
+    ("new",): ", new",
+    ("refund",): ", refund",
+    ("keep",): ", keep",
+    ("new", "refund"): ", new, refund",
+    ("new", "keep"): ", new, keep",
+    ("refund", "new"): ", refund, new",
+    ("refund", "keep"): ", refund, keep",
+    ("keep", "new"): ", keep, new",
+    ("keep", "refund"): ", keep, refund",
+    ("new", "refund", "keep"): ", new, refund, keep",
+    ("new", "keep", "refund"): ", new, keep, refund",
+    ("refund", "new", "keep"): ", refund, new, keep",
+    ("refund", "keep", "new"): ", refund, keep, new",
+    ("keep", "new", "refund"): ", keep, new, refund",
+    ("keep", "refund", "new"): ", keep, refund, new",
+}
+TEXT_MARKS = {
+    "": (),
+    ", new": ("new",),
+    ", refund": ("refund",),
+    ", keep": ("keep",),
+    ", new, refund": ("new", "refund"),
+    ", new, keep": ("new", "keep"),
+    ", refund, new": ("refund", "new"),
+    ", refund, keep": ("refund", "keep"),
+    ", keep, new": ("keep", "new"),
+    ", keep, refund": ("keep", "refund"),
+    ", new, refund, keep": ("new", "refund", "keep"),
+    ", new, keep, refund": ("new", "keep", "refund"),
+    ", refund, new, keep": ("refund", "new", "keep"),
+    ", refund, keep, new": ("refund", "keep", "new"),
+    ", keep, new, refund": ("keep", "new", "refund"),
+    ", keep, refund, new": ("keep", "refund", "new"),
 }
 MOST_LETTERS = 12
 
@@ -165,7 +183,7 @@ def wrong_part(choices, names, row):
         return "looks"
     if deed not in choices.deeds and not (shown and deed in choices.takes):
         return "deed"
-    if marks not in MARK_ORDERS or (deed == FREE and "new" in marks) or (not shown and "keep" in marks):
+    if marks not in MARK_TEXTS or (deed == FREE and "new" in marks) or (not shown and "keep" in marks):
         return "marks"
     return None if marks or deed else "marks"
 
@@ -193,8 +211,8 @@ def show_row(row):
     name, shown, looks, deed, marks = row
     words = " " + ", ".join(shown) if shown else ""
     asked = " " + ", ".join(looks) if looks else ""
-    done = ", ".join((deed, *marks) if deed else marks)
-    return f"{name}:{words} ?{asked} ! {done}"
+    done = MARK_TEXTS[marks]
+    return f"{name}:{words} ?{asked} ! {deed}{done}" if deed else f"{name}:{words} ?{asked} !{done[1:]}"
 
 
 def read_states(line):
@@ -224,11 +242,11 @@ def read_rows(choices, lines):
         other_lead, _, more = asked.partition(" ")
         shown = tuple(words.split(", ")) if seen else ()
         looks = tuple(more.split(", ")) if asked else ()
-        deed, *marks = done.split(", ")
+        deed, comma, marks = done.partition(", ")
         if deed in MARKS:
-            row = (name, shown, looks, "", (deed, *marks))
+            row = (name, shown, looks, "", TEXT_MARKS.get(", " + done, None))
         else:
-            row = (name, shown, looks, deed, tuple(marks))
+            row = (name, shown, looks, deed, TEXT_MARKS.get(comma + marks, None))
         # A line that lacks one of the signs has no deed here, and nothing in the place of marks.
         if lead or other_lead or not deed or wrong_part(choices, names, row) is not None:
             raise InvalidText(number)

@@ -193,7 +193,7 @@ def has_wrong(graph, code, wrongs):
     """Tell whether a step with one of the wrongs can be done at the situation of the code."""
     past = code & (graph.width - 1)
     for need, move in graph.node_at(code).moves:
-        if past & need and any([wrong in wrongs for wrong in move.found]):
+        if move.found and past & need and any([wrong in wrongs for wrong in move.found]):
             return True
     return False
 
