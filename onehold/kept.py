@@ -141,7 +141,7 @@ def is_paged(need, move):
 
 
 def plan_of(node, pages):
-    """Return the plan of the node. Of several moves that do the same, the last one stands there."""
+    """Return the plan of the node. Of moves that do the same, one stands there: behind it most can be kept."""
     fixed = {}
     onward = {}
     paged = []
@@ -151,10 +151,12 @@ def plan_of(node, pages):
         elif move.empties:
             fixed[(need, move.behind + 1)] = move
         else:
-            onward[(need, move.behind, pages - 1 if move.role == "owner" else pages)] = move
+            key = (need, move.behind)
+            if key not in onward or onward[key].role == "owner":
+                onward[key] = move
     return Plan(
         [(need, code, move) for (need, code), move in fixed.items()],
-        [(need, base, most, move) for (need, base, most), move in onward.items()],
+        [(need, base, pages - 1 if move.role == "owner" else pages, move) for (need, base), move in onward.items()],
         paged,
     )
 
