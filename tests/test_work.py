@@ -5,8 +5,11 @@ import timeit
 import unittest
 
 from onehold.books import check_book, read_book, show_book
+from onehold.compared import buttons, difference, idle_looks, never_more, serial
 from onehold.fairness import fair_sets
 from onehold.houses import House
+from onehold.mends import fewest_rows, gentle_looks, least_looks, needless_looks
+from onehold.pages import fewest_pages, is_page_table, page_table, prompt_verdict
 from onehold.situations import after, effect, steps_at
 from onehold.tables import table
 from onehold.verdicts import is_table, verdict
@@ -21,6 +24,20 @@ SITUATION = ("held", "running", "none", ("held",))
 DEEDS = ("take held", "take kept", "take sold", "move gone", "move kept", "time", "free", "move held")
 WIDE = (STATES, tuple([("row" + sign, SHOWN, (), deed, (deed[:4] == "take") * ("keep",) or ("refund",))
                        for sign, deed in zip("abcdefgh", DEEDS)]))
+# Two states and five rows whose runs reach nearly all that there is; few need an earlier view.
+ALL_VIEWS = ("free", "my held", "my sold", "others held", "others sold")
+SMALL = ((("held", True, False), ("sold", True, False)),
+         (("hold", ALL_VIEWS, (), "take held", ()), ("a", ALL_VIEWS, (), "move sold", ()),
+          ("b", ALL_VIEWS, ("unpaid",), "move held", ("keep",)), ("c", ALL_VIEWS, (), "move held", ("refund",)),
+          ("d", ALL_VIEWS, (), "free", ())))
+SAME = (SMALL[0], tuple([(name, shown, (*looks, "same"), deed, marks) for name, shown, looks, deed, marks in SMALL[1]]))
+# Each of the rows lets "taken" in.
+TAKEN = (SMALL[0], tuple([(name, ("free",), (), "take held", ()) for name in "abcde"]))
+# Rows of many looks, few of which are needed against "twice".
+LOOKED = (SMALL[0], (("hold", ("free",), ("at free", "not held", "not sold", "same", "still", "unpaid"), "take held", ()),
+                     ("a", ("my held",), ("at held", "not sold", "not free", "mine", "same", "unpaid"), "move sold", ()),
+                     ("b", ("my sold",), ("mine", "at sold", "not held", "not free", "unpaid"), "time", ("keep",)),
+                     ("c", (), ("over",), "free", ("refund",))))
 
 
 def calls_of(function):
@@ -67,6 +84,28 @@ class Work(unittest.TestCase):
         self.check(10000, lambda: fair_sets(WIDE))
         self.check(2000, lambda: verdict(WIDE, "taken"))
         self.check(10000, lambda: is_table(WIDE, "taken", rows, 2))
+
+    def test_pages(self):
+        rows = page_table(SAME, 3)
+        self.assertGreater(len(rows), 90)
+        self.check(9100, lambda: page_table(SAME, 3))
+        self.check(8100, lambda: is_page_table(SAME, "twice", 3, rows, None))
+        self.check(8600, lambda: prompt_verdict(SAME, "unpaid", 3))
+        self.check(5600, lambda: fewest_pages(SAME, "unpaid"))
+
+    def test_mends(self):
+        self.check(2700, lambda: gentle_looks(SAME))
+        self.check(2500, lambda: least_looks(TAKEN, ("taken",)))
+        self.check(2200, lambda: fewest_rows(TAKEN, ("taken",)))
+        self.check(4900, lambda: needless_looks(LOOKED, ("unpaid", "taken")))
+        self.check(5700, lambda: needless_looks(LOOKED, ("twice",)))
+
+    def test_comparisons(self):
+        self.check(8900, lambda: difference(SAME, SAME))
+        self.check(8800, lambda: never_more(SAME, SAME))
+        self.check(5400, lambda: serial(SAME))
+        self.check(4300, lambda: idle_looks(LOOKED))
+        self.check(8700, lambda: buttons(SAME))
 
     def test_houses(self):
         self.check(165, lambda: House(LARGE, seats=6))
