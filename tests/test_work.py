@@ -87,7 +87,7 @@ class Work(unittest.TestCase):
 
     def test_pages(self):
         rows = page_table(SAME, 3)
-        self.assertGreater(len(rows), 90)
+        self.assertGreater(len(rows), 50)
         self.check(9100, lambda: page_table(SAME, 3))
         self.check(8100, lambda: is_page_table(SAME, "twice", 3, rows, None))
         self.check(8600, lambda: prompt_verdict(SAME, "unpaid", 3))
