@@ -5,12 +5,13 @@ import unittest
 
 from onehold.books import view_word
 from onehold.compared import buttons, difference, idle_looks, never_more, serial, stand_in
+from onehold.houses import House
 from onehold.pages import fewest_pages
 from onehold.seats import FIRST_RECORD, done_record, failed_looks, kinds_of
 from onehold.situations import after, effect, steps_at
 from onehold.tables import table
 from tests.samples import busy_book, changed_book, deep_book, small_book
-from tests.test_compared import differences
+from tests.test_compared import differences, outcome, seen
 
 FIRST = ("free", "", "none", ())
 VISITORS = (0, 1, 2)
@@ -98,7 +99,48 @@ def tried(two, row, other, kinds, more):
     return False, behind
 
 
+def drawn_event(rng, book, house):
+    """An event that may come next in the house, or raise an error."""
+    story = house.story()
+    pages = len([event for event in story if event[0] == "open"])
+    letters = len([event for event in story if event[0] in ("press", "refresh")])
+    page, letter = rng.randrange(pages + 1), rng.randrange(letters + 1)
+    name, length = rng.choice(book[1])[0], rng.choice([1, 2, 5])
+    return rng.choice([
+        ("open", rng.randrange(3)), ("old", page, (rng.choice(views_of(book)),)), ("refresh", page),
+        ("press", page, name, (0,)), ("press", page, name, (0,)), ("comes", letter, length), ("comes", letter, length),
+        ("hear", letter), ("lose", letter), ("sweep", name, 0, length), ("tick", length), ("close", page),
+    ][:11 + (rng.random() < 0.2)])
+
+
+def drawn_difference(rng, first, second):
+    """How many steps are ahead of a difference that events drawn at random make, None if they make none."""
+    houses = [House(first), House(second)]
+    for _ in range(60):
+        event = drawn_event(rng, first, houses[0])
+        turn = houses[0].record(0)[3]
+        told = [outcome(house, event) for house in houses]
+        if told[0] != told[1] or seen(houses[0]) != seen(houses[1]):
+            return turn
+    return None
+
+
 class Pairs(unittest.TestCase):
+
+    def test_no_drawn_events_do_better(self):
+        rng = random.Random(3103)
+        count = 0
+        for _ in range(150):
+            first = rng.choice([small_book, deep_book])(rng)
+            second = changed_book(rng, first)
+            least = difference(first, second).steps
+            for _ in range(6):
+                found = drawn_difference(rng, first, second)
+                if found is not None:
+                    count += 1
+                    self.assertIsNotNone(least, (first, second))
+                    self.assertGreaterEqual(found, least, (first, second))
+        self.assertGreater(count, 50)
 
     def test_differences(self):
         rng = random.Random(3101)
