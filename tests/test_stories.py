@@ -158,6 +158,50 @@ class Undo(unittest.TestCase):
         self.assertEqual(house.shown(0), (("my held", 1, 1),))
 
 
+class Lists(unittest.TestCase):
+    """Point [2]: lists that are told are new, and those that are passed in are left as they are."""
+
+    def test_lists_that_are_changed(self):
+        house = open_house(5, 6, seats=2)
+        house.send(0, "tip", 0, 1)
+        house.old_answer(1, "my sold", "free")
+        house.comes(house.press(1, "leave", 1))
+        twin = house.twin()
+        before = told(house)
+        self.assertEqual((house.wrongs(1), house.failed(1)), ([(3, "astray")], [(1, "deed")]))
+        for each in (house, twin):
+            for method, number in ((each.wrongs, 0), (each.wrongs, 1), (each.failed, 1)):
+                method(number).append(("x", 1))
+                method(number).clear()
+            each.story().clear()
+        self.assertEqual((told(house), told(twin)), (before, before))
+        house.send(0, "tip", 1)
+        self.assertEqual((house.wrongs(0), house.wrongs(1)), ([(3, "astray")], [(3, "astray"), (9, "twice"), (9, "astray")]))
+        self.assertEqual(told(twin), before)
+
+    def test_wrongs_behind_events_that_were_undone(self):
+        house = open_house(5)
+        house.send(0, "tip", 0)
+        for _ in range(3):
+            house.undo()
+        house.tick()
+        house.tick()
+        twin = house.twin()
+        house.send(0, "tip", 0)
+        twin.send(0, "buy", 0)
+        self.assertEqual((house.wrongs(0), twin.wrongs(0)), ([(4, "astray")], [(4, "unpaid")]))
+
+    def test_events_are_left_as_they_are(self):
+        house = open_house(5)
+        events = [("tick", 2), ("press", 0, "hold", (0,)), ("comes", 0, 1)]
+        kept = list(events)
+        what_if(house, events)
+        play(house, events)
+        self.assertEqual(events, kept)
+        events.clear()
+        self.assertEqual(house.story()[-3:], kept)
+
+
 class Twins(unittest.TestCase):
 
     def test_a_twin_is_the_same(self):
