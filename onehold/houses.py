@@ -123,8 +123,11 @@ class House:
         letter = pressed.letters - 1
         come = with_answer(pressed, self._kinds, letter, length)
         heard = with_heard(come, letter)
-        events = [("press", page, name, seats), ("comes", letter, length), ("hear", letter)]
-        self._enter(list(zip(events, [pressed, come, heard])))
+        # Nothing has been pressed if the step is one that a guarded house does not do.
+        self._check_step(come)
+        self._add(("press", page, name, seats), pressed)
+        self._add(("comes", letter, length), come)
+        self._add(("hear", letter), heard)
         return letter not in come.refusals
 
     def sweep(self, name, seat, length=1):
@@ -197,14 +200,13 @@ class House:
         return cls(book)
 
     def _add(self, event, scene):
-        """Put one event, with the scene behind it, into the story."""
-        self._enter([(event, scene)])
+        """Put an event, with the scene behind it, into the story."""
+        self._check_step(scene)
+        self._story.append(event)
+        self._scenes.append(scene)
 
-    def _enter(self, steps):
-        """Put a list of events, each with the scene behind it, into the story."""
-        for event, scene in steps:
-            self._story.append(event)
-            self._scenes.append(scene)
+    def _check_step(self, scene):
+        """Let the last step of this scene be done, whatever wrongs it has."""
 
     def _pressed(self, page, name, seats):
         """Return the scene behind the sending of a letter for the seats."""
@@ -248,12 +250,10 @@ class House:
 class GuardedHouse(House):
     """A house that does no step with a wrong."""
 
-    def _enter(self, steps):
-        """Put a list of events into the story, or raise WrongAhead ahead of them all."""
-        for _, scene in steps:
-            if scene.found:
-                raise WrongAhead(scene.found[0][1])
-        super()._enter(steps)
+    def _check_step(self, scene):
+        """Raise WrongAhead if the last step of this scene has a wrong."""
+        if scene.found:
+            raise WrongAhead(scene.found[0][1])
 
 
 def scenes_of(house):
