@@ -352,6 +352,7 @@ class Errors(unittest.TestCase):
         ("free", "", "none", ("kept",)), ("free", "", "none", ("held", "free")), ("free", "", "none", ("held", "held")),
         ("free", "", "none", ("free", "sold", "held")), ("free", "", "none", ("",)), ("free", "", "none", ("my held",)),
         ("free", "", "none", ["held"]), ("free", "", "none", "free"),
+        ("free", "", "none", ("held", "kept")), ("free", "", "none", ("", "held")), ("free", "", "none", ("free", "x")),
     ]
     UNREACHED = [
         ("sold", "", "good", ("free", "held", "sold")), ("sold", "", "none", ()), ("free", "", "astray", ("sold",)),
