@@ -45,6 +45,10 @@ LIBRARY = ("heapq", "math", "itertools", "collections")
 BUILTINS = ("len range enumerate zip min max sum abs sorted reversed int str bool list tuple dict set isinstance ord "
             "repr any all divmod pow map iter next super property staticmethod classmethod getattr hasattr "
             "ValueError Exception TypeError KeyError NotImplemented ZeroDivisionError type").split()
+BUILTIN_METHODS = ("append clear copy count endswith extend find get index insert isalnum isalpha isascii isdigit islower "
+                   "isspace isupper items join keys lower lstrip partition pop remove removeprefix removesuffix replace "
+                   "reverse rfind rpartition rsplit rstrip setdefault split splitlines startswith strip update upper "
+                   "values zfill bit_length").split()
 BARRED_WORDS = ("register", "mro", "elements", "law", "typing", "enum", "dataclass", "overload", "contextmanager",
                 "eval", "exec", "globals", "locals", "vars", "compile", "input", "print", "async")
 
@@ -169,6 +173,55 @@ class Form(unittest.TestCase):
                 if isinstance(node, ast.Attribute) and isinstance(node.ctx, ast.Store):
                     attributes.add(node.attr)
         self.assertEqual(methods & attributes, set())
+
+    def test_methods_that_are_called(self):
+        """Those of the package, and of builtin values those that the language lists, without keywords."""
+        own = {thing.name for _, _, tree in self.each() for node in ast.walk(tree) if isinstance(node, ast.ClassDef)
+               for thing in node.body if isinstance(thing, ast.FunctionDef)}
+        for name, _, tree in self.each():
+            for node in ast.walk(tree):
+                if isinstance(node, ast.Call) and isinstance(node.func, ast.Attribute):
+                    self.assertIn(node.func.attr, [*own, *BUILTIN_METHODS], (name, node.lineno))
+                    self.assertFalse(node.func.attr in BUILTIN_METHODS and node.keywords, (name, node.lineno))
+
+    def test_attributes(self):
+        """They are stored through a local name, and each one that is read is stored or is a method."""
+        stored, read = set(), set()
+        for name, _, tree in self.each():
+            for node in ast.walk(tree):
+                if isinstance(node, ast.Attribute) and isinstance(node.ctx, ast.Store):
+                    stored.add(node.attr)
+                    self.assertIsInstance(node.value, ast.Name, (name, node.lineno))
+                elif isinstance(node, ast.Attribute):
+                    read.add(node.attr)
+                elif isinstance(node, ast.ClassDef):
+                    stored |= {thing.name for thing in node.body if isinstance(thing, ast.FunctionDef)}
+        self.assertLessEqual(read - set(BUILTIN_METHODS) - {"__init__"}, stored)
+
+    def test_signs_and_statements(self):
+        barred = (ast.Try, ast.Global, ast.Nonlocal, ast.With, ast.Match, ast.Delete, ast.Lambda, ast.GeneratorExp,
+                  ast.NamedExpr, ast.AnnAssign, ast.Div, ast.Pow, ast.Mod, ast.MatMult)
+        for name, _, tree in self.each():
+            for node in ast.walk(tree):
+                self.assertNotIsInstance(node, barred, (name, getattr(node, "lineno", 0)))
+                if isinstance(node, ast.Compare):
+                    for sign, side in zip(node.ops, node.comparators):
+                        if isinstance(sign, (ast.Is, ast.IsNot)):
+                            self.assertIsInstance(side, ast.Constant, (name, node.lineno))
+
+    def test_sets(self):
+        """A set stands in len or sorted, beside == or behind in; none is stored or gone through."""
+        for name, _, tree in self.each():
+            places = []
+            for node in ast.walk(tree):
+                if isinstance(node, ast.Call) and isinstance(node.func, ast.Name) and node.func.id in ("len", "sorted"):
+                    places += node.args
+                elif isinstance(node, ast.Compare):
+                    places += [node.left, *node.comparators]
+            for node in ast.walk(tree):
+                if isinstance(node, (ast.Set, ast.SetComp)) or (
+                        isinstance(node, ast.Call) and isinstance(node.func, ast.Name) and node.func.id == "set"):
+                    self.assertIn(node, places, (name, node.lineno))
 
     def test_builtins(self):
         for name, _, tree in self.each():
